@@ -1,0 +1,1 @@
+"""Joins of tables, decided for all stores."""

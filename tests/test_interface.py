@@ -1,0 +1,84 @@
+"""Points 0.2 and 0.3: the names, arguments and places of the interface."""
+
+import inspect
+import unittest
+
+from joinhouse.base import questions, stores, words
+from joinhouse.base.questions import Question
+from joinhouse.base.stores import Store
+from tests.samples import PATH, STORE
+
+FUNCTIONS = (
+    (words, "is_integer", 1),
+    (words, "is_count", 1),
+    (words, "is_name", 1),
+    (words, "are_names", 1),
+    (words, "is_row", 1),
+    (words, "is_naming", 2),
+    (words, "coprime", 2),
+    (questions, "is_clause", 1),
+    (questions, "are_alike", 2),
+    (questions, "is_alikeness", 3),
+    (questions, "alikeness", 2),
+    (stores, "fits", 2),
+    (stores, "frozen", 1),
+    (stores, "frozen_answer", 1),
+    (stores, "spread_store", 2),
+)
+
+PROPERTIES = {
+    Question: ("clauses", "asked", "lines", "columns", "tables", "is_plain", "lots", "spread", "full"),
+    Store: ("tables", "lines", "domain"),
+}
+
+# The methods of each class, with the number of their arguments; None stands for any number.
+METHODS = {
+    Question: (
+        ("index", 1), ("having", 1), ("with_clause", 1), ("without_clause", 1), ("asking", None), ("renamed", 1),
+        ("retabled", 1), ("folded", 1), ("__add__", 1), ("__contains__", 1), ("__len__", 0), ("__iter__", 0),
+        ("__eq__", 1), ("__str__", 0), ("__init__", 2),
+    ),
+    Store: (
+        ("rows", 1), ("with_row", 2), ("without_row", 2), ("with_table", 2), ("without_table", 1), ("renamed", 1),
+        ("folded", 1), ("within", 1), ("__add__", 1), ("__mul__", 1), ("__contains__", 1), ("__len__", 0),
+        ("__iter__", 0), ("__eq__", 1), ("__str__", 0), ("__init__", 2),
+    ),
+}
+
+
+class InterfaceTest(unittest.TestCase):
+
+    def check_arguments(self, call, many):
+        """Checks that a call takes so many arguments by position, and nothing else."""
+        kinds = [one.kind for one in inspect.signature(call).parameters.values()]
+        if many is None:
+            self.assertEqual(kinds, [inspect.Parameter.VAR_POSITIONAL])
+        else:
+            self.assertEqual(kinds, [inspect.Parameter.POSITIONAL_OR_KEYWORD] * many)
+
+    def test_functions(self):
+        for module, name, many in FUNCTIONS:
+            function = getattr(module, name)
+            self.assertEqual((function.__name__, function.__module__), (name, module.__name__))
+            self.check_arguments(function, many)
+
+    def test_classes(self):
+        self.assertEqual(Question.__module__, "joinhouse.base.questions")
+        self.assertEqual(Store.__module__, "joinhouse.base.stores")
+
+    def test_properties(self):
+        for made in PROPERTIES:
+            for name in PROPERTIES[made]:
+                self.assertIsInstance(made.__dict__[name], property)
+
+    def test_methods(self):
+        for made, example in ((Question, PATH), (Store, STORE)):
+            for name, many in METHODS[made]:
+                self.assertIn(name, made.__dict__)
+                self.check_arguments(getattr(example, name), many)
+            self.assertIsInstance(made.__dict__["from_lines"], classmethod)
+            self.check_arguments(made.from_lines, None)
+
+
+if __name__ == "__main__":
+    unittest.main()
