@@ -192,8 +192,10 @@ class Store:
         tables = {**self._tables, **other._tables}
         if not all([tables[table] == self._tables[table] for table in self._tables]):
             raise InvalidStore("a table is not equally wide in both")
-        pairs = {**self._pairs, **other._pairs}
-        rows = {table: tuple([row for name, row in pairs if name == table]) for table in tables}
+        rows = {
+            table: tuple(sorted(set([*self._rows.get(table, ()), *other._rows.get(table, ())])))
+            for table in tables
+        }
         return Store(tables, rows)
 
     def __mul__(self, other):
