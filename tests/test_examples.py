@@ -2,9 +2,40 @@
 
 import unittest
 
-from joinhouse.base.questions import are_alike
-from joinhouse.base.stores import fits, frozen, frozen_answer
+from joinhouse.base.questions import Question, are_alike
+from joinhouse.base.readings import (
+    answers,
+    count_of,
+    count_readings,
+    counts,
+    each_reading,
+    is_answered,
+    is_reading,
+    rows_read,
+)
+from joinhouse.base.stores import Store, fits, frozen, frozen_answer
 from joinhouse.base.words import are_names, coprime, is_count, is_integer, is_name, is_naming, is_row
+from joinhouse.count.alike import (
+    are_alike_stores,
+    count_injections,
+    count_onto,
+    is_parting_count,
+    is_parting_question,
+    parting_count,
+    question_of,
+    same_counts,
+)
+from joinhouse.fold.cores import core_of, count_turns, each_core, folding_onto, is_core, merging_map, spare_clauses
+from joinhouse.fold.maps import (
+    count_maps,
+    each_map,
+    find_map,
+    has_all_answers,
+    is_lost_answer,
+    least_union,
+    lost_answer,
+    same_answers,
+)
 from tests.samples import PATH, RING, STORE, TWICE
 
 
@@ -44,6 +75,69 @@ class ExamplesTest(unittest.TestCase):
             [frozen(TWICE).lines, frozen_answer(TWICE), len(STORE * STORE), (STORE * STORE).rows("t"),
              STORE.without_row("t", (4, 6)).lines[0]],
             [('row r 0 1', 'row r 2 1'), (0,), 19, ((32, 48),), 'table t 2'],
+        )
+
+    def test_readings(self):
+        self.assertEqual(
+            [list(each_reading(PATH, STORE)), counts(PATH, STORE), answers(TWICE, STORE), is_answered(RING, STORE)],
+            [[(1, 2, 5), (1, 3, 5), (1, 3, 6), (4, 3, 5), (4, 3, 6)], {(1, 5): 2, (1, 6): 1, (4, 5): 1, (4, 6): 1},
+             ((1,), (4,)), True],
+        )
+        self.assertEqual(
+            [count_readings(TWICE, STORE), count_of(TWICE, STORE, (1,)), list(each_reading(RING, STORE)),
+             rows_read(RING, STORE, (4, 3, 6)), is_reading(PATH, STORE, (1, 2, 6))],
+            [5, 3, [(4, 3, 6)], ((4, 3), (3, 6), (4, 6)), False],
+        )
+
+    def test_maps(self):
+        WAY = Question.from_lines("clause r a b", "clause r b c", "clause r c d", "asked a")
+        SELF = Question.from_lines("clause r x x", "asked x")
+        self.assertEqual(
+            [find_map(WAY, SELF), find_map(SELF, WAY), has_all_answers(WAY, SELF), has_all_answers(SELF, WAY),
+             count_maps(TWICE, TWICE), list(each_map(TWICE, TWICE))[0]],
+            [{'a': 'x', 'b': 'x', 'c': 'x', 'd': 'x'}, None, True, False, 2, {'a': 'a', 'b': 'b', 'c': 'a'}],
+        )
+        store, answer = lost_answer(SELF, WAY)
+        self.assertEqual(
+            [is_lost_answer(SELF, WAY, (store, answer)), is_lost_answer(SELF, WAY, (frozen(WAY), (0,))),
+             lost_answer(WAY, SELF), least_union((SELF, WAY, TWICE))],
+            [True, True, None, (2,)],
+        )
+
+    def test_cores(self):
+        self.assertEqual(
+            [is_core(TWICE), str(core_of(TWICE)), [str(core) for core in each_core(TWICE.asking())],
+             folding_onto(TWICE, core_of(TWICE)), merging_map(RING)],
+            [False, 'a : r(a b)', [': r(a b)', ': r(c b)'], {'a': 'a', 'b': 'b', 'c': 'a'}, None],
+        )
+        SIX = Question.from_lines("clause e a b", "clause e b a", "clause e b c", "clause e c b", "clause e c d",
+                                  "clause e d c")
+        self.assertEqual(
+            [len(core_of(SIX)), count_turns(core_of(SIX)), len(list(each_core(SIX))), len(spare_clauses(SIX)),
+             spare_clauses(TWICE), count_turns(RING)],
+            [2, 2, 3, 6, (('r', ('c', 'b')),), 1],
+        )
+
+    def test_counts(self):
+        SINGLE = Question.from_lines("clause r a b", "asked a")
+        self.assertEqual(
+            [same_answers(TWICE, SINGLE), same_counts(TWICE, SINGLE), count_onto(TWICE, SINGLE),
+             count_onto(SINGLE, TWICE), same_counts(PATH, PATH.renamed({"a": "c", "b": "a", "c": "b"}))],
+            [True, False, 1, 0, True],
+        )
+        store, answer = parting_count(TWICE, SINGLE)
+        self.assertEqual(
+            [is_parting_count(TWICE, SINGLE, (store, answer)), is_parting_count(TWICE, SINGLE, (frozen(TWICE), (0,))),
+             is_parting_count(TWICE, SINGLE, (frozen(SINGLE), (0,)))],
+            [True, True, False],
+        )
+        LEFT = Store.from_lines("row e 1 2", "row e 2 1", "row e 3 4", "row e 4 3")
+        RIGHT = Store.from_lines("row e 1 2", "row e 2 3", "row e 3 4", "row e 4 1")
+        self.assertEqual(
+            [are_alike_stores(LEFT, RIGHT), str(question_of(RIGHT)),
+             is_parting_question(LEFT, RIGHT, Question.from_lines("clause e a b", "clause e b a")),
+             count_injections(LEFT, LEFT), count_injections(LEFT, RIGHT)],
+            [False, ': e(a b) e(b c) e(c d) e(d a)', True, 8, 0],
         )
 
     def test_the_four_objects(self):

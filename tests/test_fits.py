@@ -1,24 +1,14 @@
 """Points 0.10, 0.14 and the functions of joinhouse.base.stores on stores and questions."""
 
-import itertools
 import unittest
 
 from joinhouse.base.questions import Question
 from joinhouse.base.stores import Store, fits, frozen, frozen_answer, spread_store
 from joinhouse.errors import InvalidOperation, InvalidQuestion, InvalidStore, TooMany
+from tests.brute import all_readings
 from tests.samples import PATH, RING, STORE, TWICE, VALUES, RefusingCase
 
 EIGHT = Question(tuple(("r", (letter,)) for letter in "abcdefgh"), ("h", "a"))
-
-
-def readings(question, store):
-    """All readings, one tuple of values for the columns after the other."""
-    found = []
-    for values in itertools.product(store.domain, repeat=len(question.columns)):
-        led = dict(zip(question.columns, values))
-        if all([(table, tuple(led[column] for column in columns)) in store for table, columns in question.clauses]):
-            found.append(values)
-    return found
 
 
 class FitsTest(RefusingCase):
@@ -72,7 +62,7 @@ class FrozenTest(RefusingCase):
     def test_the_columns_are_a_reading(self):
         for question in (PATH, RING, TWICE):
             self.assertTrue(fits(frozen(question), question))
-            self.assertIn(tuple(range(len(question.columns))), readings(question, frozen(question)))
+            self.assertIn(tuple(range(len(question.columns))), all_readings(question, frozen(question)))
 
     def test_wrong_arguments(self):
         for value in VALUES:
@@ -91,13 +81,13 @@ class SpreadStoreTest(RefusingCase):
         self.assertEqual((made.rows("ca"), made.rows("cb")), (STORE.rows("r"), STORE.rows("s")))
         self.assertEqual(spread_store(PATH, Store({"r": 2, "s": 2}, {})), Store({"ca": 2, "cb": 2}, {}))
 
-    def test_the_same_readings(self):
+    def test_the_same_all_readings(self):
         three = Question.from_lines("clause r a b", "clause r b a", "clause s b b", "asked b")
         store = Store.from_lines("row r 1 2", "row r 2 1", "row s 2 2", "row s 1 3", "row t 1")
         for question in (PATH, RING, TWICE, three, Question.from_lines("clause s c d", "clause r a b")):
             for one in (STORE, store.with_row("r", (2, 2)) + STORE.without_table("t") if question != RING else STORE):
-                told = readings(question.spread, spread_store(question, one))
-                self.assertEqual(told, readings(question, one))
+                told = all_readings(question.spread, spread_store(question, one))
+                self.assertEqual(told, all_readings(question, one))
 
     def test_wrong_arguments(self):
         for value in VALUES:

@@ -3,9 +3,11 @@
 import inspect
 import unittest
 
-from joinhouse.base import questions, stores, words
+from joinhouse.base import questions, readings, stores, words
 from joinhouse.base.questions import Question
 from joinhouse.base.stores import Store
+from joinhouse.count import alike
+from joinhouse.fold import cores, maps
 from tests.samples import PATH, STORE
 
 FUNCTIONS = (
@@ -24,6 +26,48 @@ FUNCTIONS = (
     (stores, "frozen", 1),
     (stores, "frozen_answer", 1),
     (stores, "spread_store", 2),
+    (readings, "each_reading", 2),
+    (readings, "is_reading", 3),
+    (readings, "count_readings", 2),
+    (readings, "answers", 2),
+    (readings, "counts", 2),
+    (readings, "count_of", 3),
+    (readings, "is_answered", 2),
+    (readings, "rows_read", 3),
+    (maps, "is_map", 3),
+    (maps, "find_map", 2),
+    (maps, "each_map", 2),
+    (maps, "count_maps", 2),
+    (maps, "composed_maps", 2),
+    (maps, "has_all_answers", 2),
+    (maps, "same_answers", 2),
+    (maps, "lost_answer", 2),
+    (maps, "is_lost_answer", 3),
+    (maps, "union_maps", 2),
+    (maps, "is_union_maps", 3),
+    (maps, "lost_by_union", 2),
+    (maps, "is_lost_by_union", 3),
+    (maps, "least_union", 1),
+    (cores, "is_core", 1),
+    (cores, "core_of", 1),
+    (cores, "is_core_of", 2),
+    (cores, "each_core", 1),
+    (cores, "is_folding", 2),
+    (cores, "folding_onto", 2),
+    (cores, "merging_map", 1),
+    (cores, "spare_clauses", 1),
+    (cores, "count_turns", 1),
+    (alike, "same_counts", 2),
+    (alike, "parting_count", 2),
+    (alike, "is_parting_count", 3),
+    (alike, "count_onto", 2),
+    (alike, "are_alike_stores", 2),
+    (alike, "store_alikeness", 2),
+    (alike, "is_store_alikeness", 3),
+    (alike, "question_of", 1),
+    (alike, "parting_question", 2),
+    (alike, "is_parting_question", 3),
+    (alike, "count_injections", 2),
 )
 
 PROPERTIES = {

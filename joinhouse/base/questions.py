@@ -232,6 +232,25 @@ def check_questions(*values):
             raise InvalidQuestion("no question")
 
 
+def are_comparable(*questions):
+    """Whether each two of some questions have equally many asked columns, and their common tables are equally wide."""
+    widths = {}
+    for question in questions:
+        if len(question.asked) != len(questions[0].asked):
+            return False
+        for table, width in question.tables.items():
+            if widths.setdefault(table, width) != width:
+                return False
+    return True
+
+
+def check_comparable(one, other):
+    """Refuses what is no question, and questions that are not comparable."""
+    check_questions(one, other)
+    if not are_comparable(one, other):
+        raise InvalidOperation("the questions are not comparable")
+
+
 def are_alike(one, other):
     """Whether one question becomes the other one by a renaming of its columns."""
     return alikeness(one, other) is not None
@@ -246,10 +265,18 @@ def is_alikeness(one, other, value):
 def alikeness(one, other):
     """Any dict by which one question renamed is the other one, None if there is none."""
     check_questions(one, other)
-    if len(one) != len(other) or len(one.asked) != len(other.asked):
-        return None
-    names = _led_to(_led({}, one.asked, other.asked), one.clauses, other.clauses)
-    return None if names is None else {column: names[column] for column in one.columns}
+    for names in each_alikeness(one, other):
+        return names
+    return None
+
+
+def each_alikeness(one, other):
+    """A generator of all dicts by which one question renamed is the other one."""
+    if len(one) == len(other) and len(one.asked) == len(other.asked):
+        begin = _led({}, one.asked, other.asked)
+        if begin is not None:
+            for names in _each_led(begin, one.clauses, other.clauses):
+                yield {column: names[column] for column in one.columns}
 
 
 def _led(names, columns, others):
@@ -263,15 +290,15 @@ def _led(names, columns, others):
     return longer
 
 
-def _led_to(names, clauses, others):
-    """A one to one dict that also leads each of some clauses to one of others, None if there is none."""
+def _each_led(names, clauses, others):
+    """A generator of the one to one dicts that also lead each of some clauses to one of others."""
     if not clauses:
-        return names
-    table, columns = clauses[0]
-    for name, places in others:
-        # As the dict is one to one, two clauses never come to the same one.
-        longer = _led(names, columns, places) if name == table and len(places) == len(columns) else None
-        found = _led_to(longer, clauses[1:], others) if longer is not None else None
-        if found is not None:
-            return found
-    return None
+        yield names
+    else:
+        table, columns = clauses[0]
+        rest = clauses[1:]
+        for name, places in others:
+            # As the dict is one to one, two clauses never come to the same one.
+            longer = _led(names, columns, places) if name == table and len(places) == len(columns) else None
+            if longer is not None:
+                yield from _each_led(longer, rest, others)

@@ -1,0 +1,1 @@
+"""Counts of answers in all stores."""

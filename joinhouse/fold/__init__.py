@@ -1,0 +1,1 @@
+"""What one question tells of another one: maps and cores."""
