@@ -165,6 +165,25 @@ class AlikeStoresTest(RefusingCase):
         self.check(mixed, table("e", *other, *[(x + 16, y + 16) for x, y in other],
                                 *[(x + 32, y + 32) for x, y in rook]), False)
 
+    def test_all_rows_but_some(self):
+        """Nearly all rows of some colours are there, and it is the missing ones that tell values apart."""
+        chance = random.Random(14)
+        triples = list(itertools.permutations(range(6), 3))
+        for many, one, other in (
+            (6, ring(6), ring(3) + ring(3, 3)), (7, ring(7), ring(3) + ring(4, 3)),
+            (8, ring(4) + ring(4, 4), ring(8)), (8, ring(2) + ring(6, 2), ring(3) + ring(5, 3)),
+        ):
+            for pairs in (list(itertools.permutations(range(many), 2)), list(itertools.product(range(many), repeat=2))):
+                first, second = [table("e", *[pair for pair in pairs if pair not in left]) for left in (one, other)]
+                self.check(first, second, False)
+                self.check(first, shuffled(chance, first), True)
+                self.check(first + second.renamed({at: at + many for at in range(many)}),
+                           shuffled(chance, second + first.renamed({at: at + many for at in range(many)})), True)
+        for left in (ring(6), ring(3) + ring(3, 3)):
+            store = table("w", *[row for row in triples if row[:2] not in left])
+            self.check(store, shuffled(chance, store), True)
+            self.check(store, table("w", *[row for row in triples if row[1:] not in left]), False)
+
     def test_regular_graphs(self):
         """Where each value has equally many neighbours, rows tell nothing until a value is chosen."""
         chance = random.Random(13)
