@@ -201,6 +201,81 @@ class AlikeStoresTest(RefusingCase):
                 self.check(both, shuffled(chance, both), True)
         self.assertGreater(parted, 15)
 
+    def test_squares_of_values(self):
+        """Rows, columns and signs of a square tell nothing of one another until some are chosen."""
+        chance = random.Random(15)
+
+        def square(many, sign):
+            return table("w", *[(x, many + y, 2 * many + sign(x, y))
+                                for x, y in itertools.product(range(many), repeat=2)])
+
+        for many in (8, 16):
+            turned = square(many, lambda x, y: (x + y) % many)
+            crossed = square(many, lambda x, y: x ^ y)
+            self.check(turned, shuffled(chance, turned), True)
+            self.check(crossed, shuffled(chance, crossed), True)
+            self.check(turned, crossed, False)
+            self.check(turned, shuffled(chance, square(many, lambda x, y: (3 * x + y) % many)), True)
+        large = square(30, lambda x, y: (x + y) % 30)
+        self.check(large, shuffled(chance, large), True)
+        self.check(large, square(30, lambda x, y: 6 * ((x // 6 + y // 6) % 5) + (x + y) % 6), True)
+        self.check(square(16, lambda x, y: 4 * ((x // 4 + y // 4) % 4) + (x + y) % 4),
+                   square(16, lambda x, y: (x + y) % 16), False)
+
+    def test_points_and_lines(self):
+        """Any two points are on one line, so that four of them have to be chosen."""
+        chance = random.Random(16)
+        for prime in (3, 7, 13):
+            points = [(1, a, b) for a in range(prime) for b in range(prime)]
+            points.extend([(0, 1, a) for a in range(prime)] + [(0, 0, 1)])
+            store = table("e", *[(x, len(points) + y) for x, one in enumerate(points) for y, other in enumerate(points)
+                                 if sum(map(int.__mul__, one, other)) % prime == 0])
+            self.check(store, shuffled(chance, store), True)
+
+    def test_ladders_and_grids(self):
+        """All values look alike, and what parts the stores is far from each of them."""
+        def ladder(many, turned):
+            sides = [(2 * at + side, (2 * at + 2 + (side ^ turned if at == many - 1 else side)) % (2 * many)
+                      if at < many - 1 else side ^ turned) for at in range(many) for side in (0, 1)]
+            return both_ways([*sides, *[(2 * at, 2 * at + 1) for at in range(many)]])
+
+        def grid(many, length, turned):
+            ahead = [(x * length + y, x * length + (y + 1) % length) for x in range(many) for y in range(length)]
+            up = [(x * length + y, (x + 1) % many * length + (y + (turned if x == many - 1 else 0)) % length)
+                  for x in range(many) for y in range(length)]
+            return table("e", *ahead, *up)
+
+        chance = random.Random(17)
+        for one, other in ((ladder(5, 0), ladder(5, 1)), (ladder(300, 0), ladder(300, 1)),
+                           (grid(5, 7, 0), grid(5, 7, 2)), (grid(30, 40, 0), grid(30, 40, 1))):
+            self.check(one, shuffled(chance, one), True)
+            self.check(other, shuffled(chance, other), True)
+            self.check(one, other, False)
+
+    def test_pairs_that_are_exchanged(self):
+        """Each pair of ends can be exchanged beside others, so that each choice has a twin, and all choices are right.
+
+        In the other store one pair is exchanged alone, which no choice of the others can make good.
+        """
+        def gadgets(pairs, many, turned):
+            rows, names = [], {}
+            for node in range(many):
+                ends = [at for at, pair in enumerate(pairs) if node in pair]
+                for chosen in (chosen for size in range(0, len(ends) + 1, 2)
+                               for chosen in itertools.combinations(ends, size)):
+                    rows.extend([((node, chosen), (node, at, at in chosen)) for at in ends])
+            for at, (x, y) in enumerate(pairs):
+                rows.extend([((x, at, up), (y, at, up != (turned and at == 0))) for up in (False, True)])
+            return both_ways([tuple(names.setdefault(end, len(names)) for end in row) for row in rows])
+
+        chance = random.Random(18)
+        for pairs, many in ((list(itertools.combinations(range(4), 2)), 4), (regular(chance, 16, 3), 16),
+                            (list(itertools.combinations(range(6), 2)), 6)):
+            one, other = gadgets(pairs, many, False), gadgets(pairs, many, True)
+            self.check(one, shuffled(chance, one), True)
+            self.check(other, shuffled(chance, other), True)
+            self.check(one, other, False)
+
     def test_large_stores(self):
         chance = random.Random(5)
         hub = [(9999, at) for at in range(500)] + [pair for at in range(0, 498, 3) for pair in ring(3, at)]

@@ -11,7 +11,7 @@ from joinhouse.base.search import Search, count_found, each_found, found_until, 
 from tests.brute import all_readings, some_question, some_store
 
 # How few tuples need no plan, how much is kept, and from how many values on fewer ones are looked for.
-WAYS = ((1000, 2000000, 10, 4), (0, 2000000, 10, 4), (0, 0, 0, 1), (1000, 3, 0, 2), (0, 20, 1, 1), (5, 1, 2, 2))
+WAYS = ((1000, 1000000, 10, 4), (0, 1000000, 10, 4), (0, 0, 0, 1), (1000, 3, 0, 2), (0, 20, 1, 1), (5, 1, 2, 2))
 
 
 class SearchTest(unittest.TestCase):

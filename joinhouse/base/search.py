@@ -3,7 +3,7 @@
 from joinhouse.base.plans import Plan, mask_of
 
 # What is remembered is forgotten beyond this, so that long searches do not fill the memory.
-MAX_KEPT = 2000000
+MAX_KEPT = 1000000
 
 # Where more values than this are to be tried, a column with so many times fewer of them is looked for.
 MANY = 10
@@ -84,22 +84,36 @@ class Search:
     def each_tuple(self):
         """A generator of all tuples, ascending."""
         if self.is_open():
-            if self._many == 0:
-                yield ()
-            else:
-                yield from self._each_longer(())
+            yield from self._each_longer(())
 
     def _each_longer(self, values):
         """A generator of all tuples that begin with values of which it is known that some do."""
         column = len(values)
-        stop = self._stop_from(column)
-        for value in self._each_value(stop, column):
-            longer = (*values, value)
-            if column + 1 == self._many:
-                yield longer
-            else:
+        if column == self._many:
+            yield values
+        else:
+            stop = self._stop_from(column)
+            key = (column, *self._key(stop))
+            tried, known = self._ascending_values(stop, column, key)
+            behind = self._plan.behind(stop.mask, column)
+            some = []
+            for value in tried:
                 self._at[column] = value
-                yield from self._each_longer(longer)
+                if known or self._are_open(behind):
+                    some.append(value)
+                    longer = (*values, value)
+                    yield from self._each_longer(longer)
+            if not known:
+                self._keep(self._choices, key, tuple(some), 1 + len(some))
+
+    def _ascending_values(self, stop, column, key):
+        """The ascending values that a column of a stop can have, and whether all columns of it can get values then."""
+        found = self._choices.get(key)
+        if found is None and stop.sides and column not in stop.begins:
+            found = self._values_at(stop, column)
+        if found is None:
+            return sorted(_common_values(self._hits(stop, column))), False
+        return found, True
 
     def each_anyhow(self):
         """A generator of all tuples in any order, which is quicker than to sort them by trying in this order."""
@@ -114,10 +128,20 @@ class Search:
         else:
             stop, *others = stops
             first, tried = self._tried(stop)
-            left = [*self._plan.behind(stop.mask, first), *others]
-            for value in self._each_open(stop, first, tried):
+            key = (first, *self._key(stop))
+            known = key in self._choices
+            if known:
+                tried = self._choices[key]
+            behind = self._plan.behind(stop.mask, first)
+            left = [*behind, *others]
+            some = []
+            for value in tried:
                 self._at[first] = value
-                yield from self._each_filled(left)
+                if known or self._are_open(behind):
+                    some.append(value)
+                    yield from self._each_filled(left)
+            if not known:
+                self._keep(self._choices, key, tuple(sorted(some)), 1 + len(some))
 
     def _stop_from(self, column):
         """The stop of a column and those behind it, where all columns ahead of it have values."""
@@ -228,30 +252,6 @@ class Search:
                 found += self._number_behind(behind)
             self._keep(self._numbers, key, found, 1)
         return found
-
-    def _each_value(self, stop, column):
-        """A generator of the values of one column with which all columns of a stop can get values, ascending."""
-        if column in stop.begins or not stop.sides:
-            tried = sorted(_common_values(self._hits(stop, column)))
-            yield from self._each_open(stop, column, tried)
-        else:
-            yield from self._values_at(stop, column)
-
-    def _each_open(self, stop, column, tried):
-        """A generator of those of some values of one column with which all columns of a stop can get values."""
-        key = (column, *self._key(stop))
-        found = self._choices.get(key)
-        if found is None:
-            behind = self._plan.behind(stop.mask, column)
-            some = []
-            for value in tried:
-                self._at[column] = value
-                if self._are_open(behind):
-                    some.append(value)
-                    yield value
-            self._keep(self._choices, key, tuple(sorted(some)), 1 + len(some))
-        else:
-            yield from found
 
     def _values_at(self, stop, column):
         """The ascending tuple of the values of one column with which all columns of a stop can get values."""

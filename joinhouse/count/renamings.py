@@ -1,167 +1,79 @@
 """Renamings of values by which one store becomes another one.
 
-The values of two stores are points, and their rows are links: pairs of a label and of different points. Points get
-colours, so that no renaming takes a point to one of another colour. What colours leave open is tried, separately for
-each lot of points that hang together.
+The values of two stores are points, and their rows are links. What colours leave open is tried, separately for each
+lot of points that hang together.
 """
 
-
-class Lot:
-    """Some points, and the links in which they stand."""
-
-    def __init__(self, points, links):
-        self.points = points
-        self.links = links
+from joinhouse.count.colours import Colouring, Effort, Lot, by_colour, full_patterns, parts_of, pattern_of
 
 
-class Colouring:
-    """Colours of the points of two lots, which get finer by what the links tell of the points.
+def _near(lot, colours):
+    """A dict from the points of a lot, and the others in its links, to their colours."""
+    found = {point: colours[point] for point in lot.points}
+    for _, points in lot.links:
+        for point in points:
+            found[point] = colours[point]
+    return found
 
-    Other points of the links have colours, too, but keep them.
+
+def _shifted(lot, shift):
+    """A lot with other points in the place of its own."""
+    names = {point: point + shift for point in lot.points}
+    links = [(label, tuple([names.get(point, point) for point in points])) for label, points in lot.links]
+    return Lot(list(names.values()), links)
+
+
+class Vain:
+    """The points of a lot that are tried in vain for one point of another lot.
+
+    A symmetry of the lot, which keeps colours, takes them to other ones that need not be tried.
     """
 
-    def __init__(self, one, other, colours):
-        self._links = [*one.links, *other.links]
-        self._numbers = _numbers_of(self._links)
-        self._turns = {**{point: 1 for point in one.points}, **{point: -1 for point in other.points}}
-        self._colours = dict(colours)
-        self._groups = {}
-        for point in self._turns:
-            group = self._groups.setdefault(colours[point], {})
-            group[point] = True
-        self._fresh = max(list(colours.values()), default=0) + 1
+    def __init__(self, lot, colours, effort):
+        self._lot = lot
+        self._colours = _near(lot, colours)
+        self._effort = effort
+        self._shift = max(list(self._colours)) + 1
+        self._symmetries = []
+        self._found = {}
+        self._left = 0
 
-    def of_all(self):
-        """A dict from the points to their colours."""
-        return dict(self._colours)
+    def has(self, point):
+        """Whether it is known that a point is tried in vain."""
+        return point in self._found
 
-    def refine(self, changed):
-        """Makes the colours finer until links tell no more, from points with new colours on.
+    def put(self, point, others, steps):
+        """Puts in a point that was tried in vain in so many steps, and what symmetries make of it.
 
-        Returns whether each colour still has equally many points of both lots.
+        They are looked for among other points, but not in more steps than were in vain, as there could be none.
         """
-        while changed:
-            told = self._told_by(changed)
-            parts = {}
-            for point in told:
-                part = parts.setdefault((self._colours[point], tuple(sorted(told[point]))), [])
-                part.append(point)
-            if any([sum([self._turns[point] for point in part]) != 0 for part in parts.values()]):
-                return False
-            colours = {}
-            for key, part in parts.items():
-                some = colours.setdefault(key[0], [])
-                some.append(part)
-            changed = []
-            for colour, some in colours.items():
-                changed.extend(self._split(colour, some, told))
-        return True
+        self._left += steps
+        self._found[point] = True
+        self._spread()
+        for other in others:
+            if self._left > 0 and other not in self._found:
+                begun = self._effort.steps
+                self._look_for_symmetry(point, other)
+                self._left -= self._effort.steps - begun
 
-    def _told_by(self, changed):
-        """What the links with points of new colours tell of each point of the lots in them."""
-        told = {}
-        for number in sorted(set([number for point in changed for number in self._numbers.get(point, [])])):
-            label, points = self._links[number]
-            tint = tuple([self._colours[point] for point in points])
-            for place, point in enumerate(points):
-                if point in self._turns:
-                    some = told.setdefault(point, [])
-                    some.append((label, place, tint))
-        return told
+    def _look_for_symmetry(self, point, other):
+        """Adds any symmetry that takes one point to another one, if there is one."""
+        twin = _shifted(self._lot, self._shift)
+        colours = {**self._colours, **{point + self._shift: self._colours[point] for point in self._lot.points}}
+        names = _renaming_with(self._lot, twin, colours, (point, other + self._shift), self._effort)
+        if names is not None:
+            self._symmetries.append({point: names[point] - self._shift for point in names})
+            self._spread()
 
-    def _split(self, colour, parts, told):
-        """Gives new colours to all parts of a group but a greatest one, and returns their points."""
-        group = self._groups[colour]
-        moved = sorted(parts, key=len)
-        left = len(group) - sum([len(part) for part in parts])
-        if left < len(moved[-1]):
-            moved.pop()
-            if left:
-                moved.append([point for point in group if point not in told])
-        changed = []
-        for part in moved:
-            for point in part:
-                del group[point]
-                self._colours[point] = self._fresh
-            self._groups[self._fresh] = {point: True for point in part}
-            self._fresh += 1
-            changed.extend(part)
-        return changed
-
-
-def _numbers_of(links):
-    """A dict from points to the numbers of the links in which they stand."""
-    found = {}
-    for number, (_, points) in enumerate(links):
-        for point in points:
-            some = found.setdefault(point, [])
-            some.append(number)
-    return found
-
-
-def _by_colour(points, colours):
-    """A dict from colours to the lists of the points that have them."""
-    found = {}
-    for point in points:
-        some = found.setdefault(colours[point], [])
-        some.append(point)
-    return found
-
-
-def _pattern(link, colours):
-    """The label of a link with the colours of its points."""
-    return link[0], tuple([colours[point] for point in link[1]])
-
-
-def _most_links(tint, groups):
-    """How many links there are if all points of some colours are in links."""
-    many = 1
-    used = {}
-    for colour in tint:
-        many *= len(groups.get(colour, [0])) - used.get(colour, 0)
-        used[colour] = used.get(colour, 0) + 1
-    return many
-
-
-def _full_patterns(lot, colours):
-    """A dict of the patterns of which there are all links, so that they tell no points apart."""
-    groups = _by_colour(lot.points, colours)
-    numbers = {}
-    for link in lot.links:
-        pattern = _pattern(link, colours)
-        numbers[pattern] = numbers.get(pattern, 0) + 1
-    return {pattern: True for pattern in numbers if numbers[pattern] == _most_links(pattern[1], groups)}
-
-
-def _lot_around(point, links, numbers, loose):
-    """The lot of the loose points that hang together with one by some links; they are loose no more."""
-    points = [point]
-    used = {}
-    del loose[point]
-    done = 0
-    while done < len(points):
-        for number in numbers.get(points[done], []):
-            if number not in used:
-                used[number] = True
-                near = [other for other in links[number][1] if other in loose]
-                points.extend(near)
-                for other in near:
-                    del loose[other]
-        done += 1
-    return Lot(points, [links[number] for number in used])
-
-
-def _parts_of(lot, colours, full):
-    """The lots into which the links that are not full part the points that share their colours."""
-    links = [link for link in lot.links if _pattern(link, colours) not in full]
-    numbers = _numbers_of(links)
-    groups = _by_colour(lot.points, colours)
-    loose = {point: True for point in lot.points if len(groups[colours[point]]) > 1}
-    found = []
-    for point in list(loose):
-        if point in loose:
-            found.append(_lot_around(point, links, numbers, loose))
-    return found
+    def _spread(self):
+        """Takes all symmetries as often as they lead to new points."""
+        todo = list(self._found)
+        while todo:
+            point = todo.pop()
+            for names in self._symmetries:
+                if names[point] not in self._found:
+                    self._found[names[point]] = True
+                    todo.append(names[point])
 
 
 def _led_by_colour(points, others, colours):
@@ -172,37 +84,55 @@ def _led_by_colour(points, others, colours):
 
 def _alone(points, colours):
     """Those of some points that have a colour of their own."""
-    return [some[0] for some in _by_colour(points, colours).values() if len(some) == 1]
+    return [some[0] for some in by_colour(points, colours).values() if len(some) == 1]
 
 
-def _lot_renaming(one, other, colours):
-    """Any dict from the points of one lot to those of another with the same colours that keeps links and colours."""
-    groups = _by_colour(one.points, colours)
+def _telling_point(lot, groups, colours):
+    """A point of a colour that others share, of which links can be expected to tell most when it is fixed."""
+    times = {}
+    for pattern in {pattern_of(link, colours): True for link in lot.links}:
+        for colour in {tint: True for tint in pattern[1]}:
+            times[colour] = times.get(colour, 0) + 1
     shared = [colour for colour in groups if len(groups[colour]) > 1]
-    if not shared:
+    best = min(shared, key=lambda colour: (-times.get(colour, 0), len(groups[colour])))
+    return groups[best][0]
+
+
+def _renaming_with(one, other, colours, points, effort):
+    """Any dict like that of `renaming_of` which takes the one of two points to the other one."""
+    fresh = max(list(colours.values())) + 1
+    return renaming_of(one, other, {**colours, points[0]: fresh, points[1]: fresh}, points, effort)
+
+
+def _lot_renaming(one, other, colours, effort):
+    """Any dict from the points of one lot to those of another with the same colours that keeps links and colours."""
+    groups = by_colour(one.points, colours)
+    if len(groups) == len(one.points):
         return _led_by_colour(one.points, other.points, colours)
-    near = {point: colours[point] for lot in (one, other) for _, points in lot.links for point in points}
-    fresh = max(list(near.values())) + 1
-    least = min(shared, key=lambda colour: len(groups[colour]))
-    point = groups[least][0]
-    for tried in other.points:
-        if colours[tried] == least:
-            names = renaming_of(one, other, {**near, point: fresh, tried: fresh}, [point, tried])
+    near = {**_near(one, colours), **_near(other, colours)}
+    point = _telling_point(one, groups, colours)
+    vain = Vain(other, colours, effort)
+    others = by_colour(other.points, colours)[colours[point]]
+    for at, tried in enumerate(others):
+        if not vain.has(tried):
+            begun = effort.steps
+            names = _renaming_with(one, other, near, (point, tried), effort)
             if names is not None:
                 return names
+            vain.put(tried, others[at + 1:], effort.steps - begun)
     return None
 
 
-def _kind_of(lot, kinds, colours):
+def _kind_of(lot, kinds, colours, effort):
     """The pair of the index of the lot of a kind, and of a dict from it to a lot; a new index for a new kind."""
     for at, first in enumerate(kinds):
-        names = _lot_renaming(first, lot, colours)
+        names = _lot_renaming(first, lot, colours, effort)
         if names is not None:
             return at, names
     return len(kinds), {point: point for point in lot.points}
 
 
-def _paired(lots, colours):
+def _paired(lots, colours, effort):
     """Any dict that takes lots of the first side to lots of the second one, None if there is none.
 
     `lots` are pairs of a side, 0 or 1, and of a lot; all have the same colours.
@@ -210,7 +140,7 @@ def _paired(lots, colours):
     kinds = []
     found = ([], [])
     for side, lot in lots:
-        at, names = _kind_of(lot, kinds, colours)
+        at, names = _kind_of(lot, kinds, colours, effort)
         if at == len(kinds):
             kinds.append(lot)
         found[side].append((at, names))
@@ -226,25 +156,25 @@ def _paired(lots, colours):
     return led
 
 
-def renaming_of(one, other, colours, changed):
+def renaming_of(one, other, colours, changed, effort):
     """Any dict from the points of one lot to those of another one that keeps links and colours, None if there is none.
 
     The links tell no points of one colour apart, but for what they tell by the new colours of changed points.
     """
-    colouring = Colouring(one, other, colours)
+    colouring = Colouring(one, other, colours, effort)
     if not colouring.refine(changed):
         return None
     finer = colouring.of_all()
-    full = _full_patterns(one, finer)
+    full = full_patterns(one, finer)
     alike = {}
     for side, lot in enumerate((one, other)):
-        for part in _parts_of(lot, finer, full):
+        for part in parts_of(lot, finer, full):
             tint = tuple(sorted([finer[point] for point in part.points]))
             some = alike.setdefault((tint, len(part.links)), [])
             some.append((side, part))
     names = _led_by_colour(_alone(one.points, finer), _alone(other.points, finer), finer)
     for lots in alike.values():
-        led = _paired(lots, finer)
+        led = _paired(lots, finer, effort)
         if led is None:
             return None
         names.update(led)
@@ -272,7 +202,7 @@ def store_renaming(one, other):
     first = _lot_of(one, 0, labels)
     second = _lot_of(other, len(values), labels)
     changed = [*first.points, *second.points]
-    names = renaming_of(first, second, {point: 0 for point in changed}, changed)
+    names = renaming_of(first, second, {point: 0 for point in changed}, changed, Effort())
     if names is None:
         return None
     return {number: others[names[at] - len(values)] for at, number in enumerate(values)}
