@@ -117,6 +117,9 @@ class SameCountsTest(RefusingCase):
         self.assertIs(is_parting_count(SINGLE, more, (store, (0,))), False)
         self.assertIs(is_parting_count(SINGLE, more, (store.with_table("t", 1), (0,))), True)
         self.assertIs(is_parting_count(SINGLE, more, (store.with_table("t", 2), (0,))), False)
+        self.assertIs(is_parting_count(more, SINGLE, (store, (0,))), False)
+        self.assertIs(is_parting_count(more, SINGLE, (store.with_table("t", 2), (0,))), False)
+        self.assertIs(is_parting_count(more, SINGLE, (store.with_table("t", 1), (0,))), True)
         self.assertEqual(parting_count(SINGLE, more)[0].tables, {"r": 2, "t": 1})
 
 

@@ -205,6 +205,8 @@ class AnswersInAllStoresTest(RefusingCase):
         self.assertIs(is_lost_answer(more, SINGLE, (frozen(SINGLE), (0,))), False)
         self.assertIs(is_lost_answer(more, SINGLE, (frozen(SINGLE).with_table("t", 2), (0,))), False)
         self.assertIs(is_lost_answer(more, SINGLE, (frozen(SINGLE).with_table("t", 1), (0,))), True)
+        self.assertIs(is_lost_answer(SINGLE, more, (frozen(SINGLE), (0,))), False)
+        self.assertIs(is_lost_answer(SINGLE, more, (frozen(SINGLE).with_table("t", 2), (0,))), False)
         store, answer = lost_answer(more, SINGLE)
         self.assertIs(is_lost_answer(more, SINGLE, (store, answer)), True)
         self.assertEqual(store.tables["t"], 1)
