@@ -449,6 +449,27 @@ class InjectionsTest(RefusingCase):
         self.assertEqual(count_injections(loose, loose), 720)
         self.assertEqual(count_injections(loose, table("t", *[(at,) for at in range(5)])), 0)
 
+    def test_values_that_can_be_exchanged(self):
+        """Some values stand in rows together and can be exchanged, with other rows around them or without."""
+        chance = random.Random(19)
+        three = list(itertools.permutations(range(3), 2))
+        around = ([], [(0, 3), (1, 3), (2, 3)], [(3, 0), (3, 1), (3, 2), (3, 3)], [(0, 0), (1, 1), (2, 2)], [(0, 3)],
+                  [(3, 4), (4, 3)], [(3, 4)])
+        pairs = list(itertools.product(range(6), repeat=2))
+        for rows in around:
+            one = table("e", *three, *rows)
+            for many in (20, 28, 33):
+                other = table("e", *chance.sample(pairs, many))
+                self.assertEqual(count_injections(one, other), all_injections(one, other))
+        triples = list(itertools.permutations(range(5), 3))
+        for rows in (triples[:1], [row for row in triples if set(row) == {0, 1, 2}], [(0, 1, 2), (1, 0, 2)],
+                     [(0, 1, 2), (0, 2, 1), (3, 1, 2), (3, 2, 1)], [(0, 0, 1), (1, 1, 0)], [(0, 0, 1), (1, 1, 0), (2, 2, 2)]):
+            one = table("w", *rows)
+            for many in (60, 100):
+                other = table("w", *chance.sample(list(itertools.product(range(5), repeat=3)), many))
+                self.assertEqual(count_injections(one, other), all_injections(one, other))
+                self.assertEqual(count_injections(one, one), all_injections(one, one))
+
     def test_stores_without_rows(self):
         self.assertEqual(count_injections(EMPTY, EMPTY), 1)
         self.assertEqual(count_injections(EMPTY, LEFT), 1)
@@ -460,8 +481,9 @@ class InjectionsTest(RefusingCase):
         self.assertEqual(count_injections(loose, many), math.perm(3000, 6))
         self.assertEqual(count_injections(table("e", *ring(6)), table("e", *ring(3000))), 0)
         self.assertEqual(count_injections(table("e", (0, 1), (1, 2), (2, 3)), table("e", *ring(3000))), 3000)
-        self.assertEqual(count_injections(both_ways(ring(3)), table("e", *itertools.permutations(range(40), 2))),
-                         math.perm(40, 3))
+        for few, many in ((3, 55), (4, 55), (5, 40), (6, 25)):
+            self.assertEqual(count_injections(*[table("e", *itertools.permutations(range(number), 2))
+                                                for number in (few, many)]), math.perm(many, few))
         star = table("e", *[(0, at) for at in range(1, 6)])
         hub = both_ways([(0, at) for at in range(1, 1500)])
         self.assertEqual(count_injections(star, hub), math.perm(1499, 5))

@@ -1,11 +1,13 @@
 """Questions and stores that count alike, and what parts those that do not."""
 
+from math import factorial
+
 from joinhouse.base.choices import all_chosen, all_parted
 from joinhouse.base.questions import MAX_CLAUSES, MAX_COLUMNS, Question, are_alike, check_comparable
 from joinhouse.base.readings import MAX_LISTED, count_of, count_readings, rows_for
 from joinhouse.base.search import Search, count_found
 from joinhouse.base.stores import Store, check_stores, fits, frozen_answer
-from joinhouse.base.words import are_different, is_count, is_dict_from
+from joinhouse.base.words import are_different, is_ascending, is_count, is_dict_from
 from joinhouse.count.renamings import store_renaming
 from joinhouse.errors import InvalidOperation, TooMany
 from joinhouse.fold.maps import clause_rows, count_maps, each_map
@@ -197,6 +199,31 @@ def _clauses_into(one, other):
     return clauses
 
 
+def _are_twins(store, value, other):
+    """Whether two values stand in a row together, and the store stays as it is if they are exchanged."""
+    names = {value: other, other: value}
+    if not any([value in row and other in row for _, row in store]):
+        return False
+    return all([(table, tuple([names.get(number, number) for number in row])) in store for table, row in store])
+
+
+def _twins_of(store):
+    """The lists of the numbers of values of which each two are twins."""
+    found = []
+    for at, value in enumerate(store.domain):
+        near = [some for some in found if _are_twins(store, store.domain[some[0]], value)]
+        if near:
+            near[0].append(at)
+        else:
+            found.append([at])
+    return [some for some in found if len(some) > 1]
+
+
+def _are_in_order(columns, told, twins):
+    """Whether values for some columns ascend from each of some twins to the next one."""
+    return is_ascending([number for column, number in zip(columns, told) if column in twins])
+
+
 def _number_within(blocks, clauses):
     """The number of dicts that are equal within blocks of values, and take each clause to one of its tuples."""
     led = []
@@ -224,4 +251,10 @@ def count_injections(one, other):
     if len(one.domain) > MAX_VALUES:
         raise TooMany(MAX_VALUES)
     clauses = _clauses_into(one, other)
-    return sum([_weight(blocks) * _number_within(blocks, clauses) for blocks in all_parted(len(one.domain))])
+    # Twins can be exchanged in each dict, so that those in one order tell of all: there can be far fewer of them.
+    times = 1
+    for twins in _twins_of(one):
+        times *= factorial(len(twins))
+        clauses = {columns: [told for told in clauses[columns] if _are_in_order(columns, told, twins)]
+                   for columns in clauses}
+    return times * sum([_weight(blocks) * _number_within(blocks, clauses) for blocks in all_parted(len(one.domain))])
