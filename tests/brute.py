@@ -91,3 +91,76 @@ def shuffled(chance, store):
     """A store with other values, one to one."""
     others = chance.sample(range(3 * len(store.domain) + 3), len(store.domain))
     return store.renamed(dict(zip(store.domain, others)))
+
+
+def shape(*texts, asked=()):
+    """The plain question of the tables `ta`, `tb`, .., whose clauses have the columns that the texts tell by letters."""
+    return Question(tuple(("t" + letter, tuple(text)) for letter, text in zip("abcdefgh", texts)), tuple(asked))
+
+
+def ring_of(columns):
+    """The plain question in which each two neighbours of a ring of columns stand in a clause."""
+    return shape(*[one + other for one, other in zip(columns, columns[1:] + columns[0])])
+
+
+def crown_of(columns):
+    """The plain question of all clauses with all columns but one."""
+    return shape(*[columns.replace(column, "") for column in columns])
+
+
+def some_shape(chance, *, letters="abcde", most=5, wide=3, many=None):
+    """A plain question by chance; columns can stand twice in a clause."""
+    texts = ["".join(chance.choices(letters, k=chance.randint(1, wide))) for _ in range(many or chance.randint(1, most))]
+    columns = sorted(set("".join(texts)))
+    return shape(*texts, asked=chance.sample(columns, chance.randint(0, len(columns))))
+
+
+def store_for(chance, question, *, most=6, values=3, others=True):
+    """A store by chance that fits a plain question, with another table beside."""
+    rows = {}
+    for table, width in question.tables.items():
+        many = chance.choice((most, most, most, 2, 1, 0) if chance.random() < 0.2 else (most,))
+        rows[table] = tuple({tuple(chance.choices(range(values), k=width)) for _ in range(many)})
+    tables = question.tables
+    if others:
+        tables["other"] = 1
+        rows["other"] = ((99,),)
+    return Store(tables, rows)
+
+
+def clause_sets(question):
+    """The sets of the clauses."""
+    return [frozenset(columns) for _, columns in question.clauses]
+
+
+def agrees_itself(columns, row):
+    """Whether a row agrees with itself where a column stands twice."""
+    led = dict(zip(columns, row))
+    return all(led[column] == value for column, value in zip(columns, row))
+
+
+def agree(columns, row, others, other):
+    """Whether two rows agree in all common columns."""
+    one, two = dict(zip(columns, row)), dict(zip(others, other))
+    return all(one[column] == two[column] for column in one if column in two)
+
+
+def rows_in_readings(question, store):
+    """The tuple of the tuples of the rows that the clauses read in some reading."""
+    found = [set() for _ in question.clauses]
+    for reading in all_readings(question, store):
+        led = dict(zip(question.columns, reading))
+        for at, (_, columns) in enumerate(question.clauses):
+            found[at].add(tuple(led[column] for column in columns))
+    return tuple(tuple(sorted(rows)) for rows in found)
+
+
+def is_connected(things, links):
+    """Whether one gets from each of some things to each other one along links between them."""
+    things = set(things)
+    reached = {min(things)}
+    while True:
+        more = {end for link in links for end in link if set(link) <= things and reached & set(link)} | reached
+        if more == reached:
+            return reached == things
+        reached = more

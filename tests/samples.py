@@ -9,6 +9,7 @@ from joinhouse.errors import InvalidQuestion, ParseError, Refused, UnknownName
 PATH = Question.from_lines("clause r a b", "clause s b c", "asked a c")
 RING = Question.from_lines("clause r a b", "clause s b c", "clause t a c", "asked")
 TWICE = Question.from_lines("clause r a b", "clause r c b", "asked a")
+LOOP = Question.from_lines("clause r a b", "clause s b c", "clause t c d", "clause u a d")
 STORE = Store.from_lines(
     "row r 1 2", "row r 1 3", "row r 4 3", "row s 2 5", "row s 3 5", "row s 3 6", "row t 4 6"
 )

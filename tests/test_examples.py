@@ -25,6 +25,7 @@ from joinhouse.count.alike import (
     question_of,
     same_counts,
 )
+from joinhouse.count.whence import Whence, is_parting_whence, lost_with, parting_whence, whence_of, whences
 from joinhouse.fold.cores import core_of, count_turns, each_core, folding_onto, is_core, merging_map, spare_clauses
 from joinhouse.fold.maps import (
     count_maps,
@@ -36,7 +37,17 @@ from joinhouse.fold.maps import (
     lost_answer,
     same_answers,
 )
-from tests.samples import PATH, RING, STORE, TWICE
+from joinhouse.shape.knots import are_agreeing, is_knot, is_stuck, knot_of, stuck_by, stuck_store
+from joinhouse.shape.reducers import (
+    count_copies,
+    full_reducer,
+    is_full_reducer,
+    left_by,
+    missed_store,
+    read_rows,
+)
+from joinhouse.shape.trees import is_cutting, join_tree, tree_of
+from tests.samples import LOOP, PATH, RING, STORE, TWICE
 
 
 class ExamplesTest(unittest.TestCase):
@@ -138,6 +149,64 @@ class ExamplesTest(unittest.TestCase):
              is_parting_question(LEFT, RIGHT, Question.from_lines("clause e a b", "clause e b a")),
              count_injections(LEFT, LEFT), count_injections(LEFT, RIGHT)],
             [False, ': e(a b) e(b c) e(c d) e(d a)', True, 8, 0],
+        )
+
+    def test_whences(self):
+        some = whence_of(TWICE, STORE, (1,))
+        self.assertEqual(
+            [str(some), some.ways, some.needed, some.evaluated({("r", (1, 3)): 5}), some.least({("r", (1, 2)): 3}),
+             some.greatest({("r", (1, 2)): 3, ("r", (4, 3)): 1})],
+            ['r(1 2)^2 + r(1 3) r(4 3) + r(1 3)^2', 3, (), 31, 0, 6],
+        )
+        self.assertEqual(
+            [str(whence_of(PATH, STORE, (1, 5))), str(whence_of(PATH, STORE, (2, 2))),
+             str(some.without((("r", (1, 3)),))), lost_with(PATH, STORE, (("s", (3, 6)),))],
+            ['r(1 2) s(2 5) + r(1 3) s(3 5)', '0', 'r(1 2)^2', ((1, 6), (4, 6))],
+        )
+        step = Whence({(("r", (1, 2), 1),): 2, (): 1})
+        self.assertEqual(
+            [str(step), str(step * step), str(step + step), str(some.put_in("r", (1, 2), step)),
+             len(whences(PATH, STORE)), str(whences(RING, STORE)[()])],
+            ['1 + 2 r(1 2)', '1 + 4 r(1 2) + 4 r(1 2)^2', '2 + 4 r(1 2)',
+             '1 + 4 r(1 2) + 4 r(1 2)^2 + r(1 3) r(4 3) + r(1 3)^2', 4, 'r(4 3) s(3 6) t(4 6)'],
+        )
+        once = Question.from_lines("clause r a b", "asked a")
+        self.assertEqual(
+            [is_parting_whence(once, TWICE, parting_whence(once, TWICE)),
+             parting_whence(TWICE, TWICE.renamed({"a": "c", "b": "b", "c": "a"})),
+             is_parting_whence(once, TWICE, (STORE, (9,)))],
+            [True, None, False],
+        )
+
+    def test_trees_and_knots(self):
+        self.assertEqual(
+            [join_tree(PATH), knot_of(RING), knot_of(LOOP), join_tree(RING), is_cutting(PATH, ((1, 0),)),
+             tree_of(((1, 0), (2, 0)))],
+            [((0, 1),), ('crown', ('a', 'b', 'c')), ('ring', ('a', 'b', 'c', 'd')), None, True, ((0, 1), (0, 2))],
+        )
+        stuck = stuck_by(LOOP, ("ring", ("a", "b", "c", "d")))
+        self.assertEqual(
+            [stuck.rows("r"), stuck.rows("u"), is_stuck(LOOP, stuck), is_answered(LOOP, stuck),
+             stuck_by(RING, ("crown", ("a", "b", "c"))).lines, stuck_store(PATH)],
+            [((0, 0), (1, 1)), ((0, 1), (1, 0)), True, False,
+             ('row r 0 1', 'row r 1 0', 'row s 0 1', 'row s 1 0', 'row t 0 1', 'row t 1 0'), None],
+        )
+        self.assertEqual(
+            [are_agreeing(PATH, STORE), is_knot(RING, ("ring", ("a", "b", "c"))),
+             join_tree(Question.from_lines("clause r a b", "clause s b c", "clause t a c", "clause u a b c"))],
+            [True, False, ((0, 3), (1, 3), (2, 3))],
+        )
+
+    def test_programs(self):
+        self.assertEqual(
+            [left_by(PATH, STORE, ((0, 1), (1, 0))), read_rows(RING, STORE), full_reducer(RING),
+             len(full_reducer(PATH)), is_full_reducer(PATH, ((0, 1),))],
+            [(((1, 2), (1, 3), (4, 3)), ((2, 5), (3, 5), (3, 6))), (((4, 3),), ((3, 6),), ((4, 6),)), None, 2, False],
+        )
+        self.assertEqual(
+            [is_full_reducer(PATH, ((1, 0), (0, 1))), missed_store(PATH, ((0, 1), (1, 0))),
+             count_copies(PATH, ((1, 0), (0, 1)), 0), is_full_reducer(RING, ((0, 1), (1, 2), (2, 0), (0, 1)))],
+            [True, None, 3, False],
         )
 
     def test_the_four_objects(self):

@@ -6,8 +6,10 @@ import unittest
 from joinhouse.base import questions, readings, stores, words
 from joinhouse.base.questions import Question
 from joinhouse.base.stores import Store
-from joinhouse.count import alike
+from joinhouse.count import alike, whence
+from joinhouse.count.whence import Whence
 from joinhouse.fold import cores, maps
+from joinhouse.shape import knots, reducers, trees
 from tests.samples import PATH, STORE
 
 FUNCTIONS = (
@@ -68,11 +70,35 @@ FUNCTIONS = (
     (alike, "parting_question", 2),
     (alike, "is_parting_question", 3),
     (alike, "count_injections", 2),
+    (whence, "whence_of", 3),
+    (whence, "whences", 2),
+    (whence, "lost_with", 3),
+    (whence, "parting_whence", 2),
+    (whence, "is_parting_whence", 3),
+    (trees, "join_tree", 1),
+    (trees, "is_join_tree", 2),
+    (trees, "cutting", 1),
+    (trees, "is_cutting", 2),
+    (trees, "tree_of", 1),
+    (knots, "knot_of", 1),
+    (knots, "is_knot", 2),
+    (knots, "stuck_by", 2),
+    (knots, "stuck_store", 1),
+    (knots, "is_stuck", 2),
+    (knots, "are_agreeing", 2),
+    (reducers, "is_program", 2),
+    (reducers, "left_by", 3),
+    (reducers, "read_rows", 2),
+    (reducers, "full_reducer", 1),
+    (reducers, "count_copies", 3),
+    (reducers, "is_full_reducer", 2),
+    (reducers, "missed_store", 2),
 )
 
 PROPERTIES = {
     Question: ("clauses", "asked", "lines", "columns", "tables", "is_plain", "lots", "spread", "full"),
     Store: ("tables", "lines", "domain"),
+    Whence: ("parts", "unknowns", "ways", "needed"),
 }
 
 # The methods of each class, with the number of their arguments; None stands for any number.
@@ -87,7 +113,13 @@ METHODS = {
         ("folded", 1), ("within", 1), ("__add__", 1), ("__mul__", 1), ("__contains__", 1), ("__len__", 0),
         ("__iter__", 0), ("__eq__", 1), ("__str__", 0), ("__init__", 2),
     ),
+    Whence: (
+        ("evaluated", 1), ("least", 1), ("greatest", 1), ("without", 1), ("put_in", 3), ("__add__", 1), ("__mul__", 1),
+        ("__contains__", 1), ("__len__", 0), ("__iter__", 0), ("__eq__", 1), ("__str__", 0), ("__init__", 1),
+    ),
 }
+
+EXAMPLES = ((Question, PATH), (Store, STORE), (Whence, Whence({})))
 
 
 class InterfaceTest(unittest.TestCase):
@@ -109,6 +141,7 @@ class InterfaceTest(unittest.TestCase):
     def test_classes(self):
         self.assertEqual(Question.__module__, "joinhouse.base.questions")
         self.assertEqual(Store.__module__, "joinhouse.base.stores")
+        self.assertEqual(Whence.__module__, "joinhouse.count.whence")
 
     def test_properties(self):
         for made in PROPERTIES:
@@ -116,10 +149,11 @@ class InterfaceTest(unittest.TestCase):
                 self.assertIsInstance(made.__dict__[name], property)
 
     def test_methods(self):
-        for made, example in ((Question, PATH), (Store, STORE)):
+        for made, example in EXAMPLES:
             for name, many in METHODS[made]:
                 self.assertIn(name, made.__dict__)
                 self.check_arguments(getattr(example, name), many)
+        for made in (Question, Store):
             self.assertIsInstance(made.__dict__["from_lines"], classmethod)
             self.check_arguments(made.from_lines, None)
 

@@ -7,6 +7,7 @@ from joinhouse.base.words import (
     is_dict_from,
     is_name,
     is_naming,
+    is_pair,
     is_width,
     words_of,
 )
@@ -20,9 +21,7 @@ _LETTERS = "abcdefgh"
 
 def is_clause(value):
     """Whether the value is a pair of a table's name and of one to eight columns."""
-    if not isinstance(value, tuple) or len(value) != 2:
-        return False
-    return is_name(value[0]) and are_names(value[1]) and is_width(len(value[1]))
+    return is_pair(value) and is_name(value[0]) and are_names(value[1]) and is_width(len(value[1]))
 
 
 def _columns_of(clauses):
@@ -230,6 +229,13 @@ def check_questions(*values):
     for value in values:
         if not isinstance(value, Question):
             raise InvalidQuestion("no question")
+
+
+def check_plain(question):
+    """Refuses what is no plain question."""
+    check_questions(question)
+    if not question.is_plain:
+        raise InvalidOperation("the question is not plain")
 
 
 def are_comparable(*questions):

@@ -10,7 +10,7 @@ MANY = 10
 MANY_TIMES = 4
 
 
-def _agreeing_rows(columns, rows, given):
+def agreeing_rows(columns, rows, given):
     """The rows that agree with themselves where a column stands twice, and with given values of columns."""
     firsts = [columns.index(column) for column in columns]
     pairs = [(place, first) for place, first in enumerate(firsts) if place != first]
@@ -25,7 +25,7 @@ def _agreeing_rows(columns, rows, given):
 
 def _free_clause(columns, rows, given, numbers):
     """A clause without its given columns: the numbers of the others, each once, and the rows of their values."""
-    agreeing = _agreeing_rows(columns, rows, given)
+    agreeing = agreeing_rows(columns, rows, given)
     free = [column for column in numbers if column in columns]
     places = [columns.index(column) for column in free]
     if places == list(range(len(columns))):
@@ -84,12 +84,17 @@ class Search:
     def each_tuple(self):
         """A generator of all tuples, ascending."""
         if self.is_open():
-            yield from self._each_longer(())
+            yield from self._each_longer((), self._many)
 
-    def _each_longer(self, values):
-        """A generator of all tuples that begin with values of which it is known that some do."""
+    def each_head(self, many):
+        """A generator of the values that so many first columns have in the tuples, ascending, each of them once."""
+        if self.is_open():
+            yield from self._each_longer((), many)
+
+    def _each_longer(self, values, many):
+        """A generator of all tuples for so many first columns that begin with values of which some are known to do."""
         column = len(values)
-        if column == self._many:
+        if column == many:
             yield values
         else:
             stop = self._stop_from(column)
@@ -102,7 +107,7 @@ class Search:
                 if known or self._are_open(behind):
                     some.append(value)
                     longer = (*values, value)
-                    yield from self._each_longer(longer)
+                    yield from self._each_longer(longer, many)
             if not known:
                 self._keep(self._choices, key, tuple(some), 1 + len(some))
 
@@ -302,6 +307,16 @@ def each_found(question, rows, given):
             yield tuple([given[column] if column in given else values[numbers[column]] for column in question.columns])
         else:
             yield values
+
+
+def each_found_part(question, rows, columns):
+    """A generator of the values that some different columns have in readings, ascending, each tuple of them once."""
+    ordered = [*columns, *[column for column in question.columns if column not in columns]]
+    numbers = {column: number for number, column in enumerate(ordered)}
+    clauses = [_free_clause(names, rows.get(table, ()), {}, numbers) for table, names in question.clauses]
+    search = Search(len(numbers), clauses)
+    many = len(columns)
+    yield from search.each_head(many)
 
 
 def found_until(question, rows, most):

@@ -7,6 +7,7 @@ from joinhouse.base.words import (
     is_dict_from,
     is_figures,
     is_name,
+    is_pair,
     is_row,
     is_width,
     words_of,
@@ -28,7 +29,7 @@ MAX_ROWS = 3000
 
 def is_entry(value):
     """Whether the value is a pair of a table's name and a row."""
-    return isinstance(value, tuple) and len(value) == 2 and is_name(value[0]) and is_row(value[1])
+    return is_pair(value) and is_name(value[0]) and is_row(value[1])
 
 
 def _are_tables(value):

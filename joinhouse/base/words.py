@@ -22,6 +22,16 @@ def is_count(value):
     return is_integer(value) and value >= 0
 
 
+def is_index(many, value):
+    """Whether the value is an index of one of so many things."""
+    return is_count(value) and value < many
+
+
+def is_pair(value):
+    """Whether the value is a tuple of two things."""
+    return isinstance(value, tuple) and len(value) == 2
+
+
 def is_width(value):
     """Whether the value is a width that a table can have."""
     return is_integer(value) and 1 <= value <= MAX_WIDTH
@@ -80,6 +90,18 @@ def coprime(one, other):
         raise InvalidNumber(other)
     common = gcd(one, other)
     return one // common, other // common
+
+
+def power(number, times):
+    """A number multiplied with itself so many times, at least 0."""
+    found = 1
+    while times:
+        if times & 1:
+            found = found * number
+        times = times >> 1
+        if times:
+            number = number * number
+    return found
 
 
 def words_of(line):

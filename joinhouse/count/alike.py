@@ -7,10 +7,10 @@ from joinhouse.base.questions import MAX_CLAUSES, MAX_COLUMNS, Question, are_ali
 from joinhouse.base.readings import MAX_LISTED, count_of, count_readings, rows_for
 from joinhouse.base.search import Search, count_found
 from joinhouse.base.stores import Store, check_stores, fits, frozen_answer
-from joinhouse.base.words import are_different, is_ascending, is_count, is_dict_from
+from joinhouse.base.words import are_different, is_ascending, is_count, is_dict_from, is_pair
 from joinhouse.count.renamings import store_renaming
 from joinhouse.errors import InvalidOperation, TooMany
-from joinhouse.fold.maps import clause_rows, count_maps, each_map
+from joinhouse.fold.maps import clause_rows, count_maps, each_map, frozen_part
 
 MAX_VALUES = 6
 MAX_FEW = 8
@@ -35,16 +35,6 @@ def _are_few(questions, rows):
     return max([count_found(question, rows, {}) for question in questions]) <= MAX_LISTED
 
 
-def _frozen_part(question, clauses, tables):
-    """The store with just some of the rows of the frozen store of a question."""
-    numbers = {column: number for number, column in enumerate(question.columns)}
-    rows = clause_rows(clauses)
-    return Store(tables, {
-        table: tuple([tuple([numbers[column] for column in columns]) for columns in rows[table]])
-        for table in rows
-    })
-
-
 def parting_count(one, other):
     """Any store that fits both with a tuple that has unlike counts there, None if there is none."""
     check_comparable(one, other)
@@ -56,7 +46,7 @@ def parting_count(one, other):
     for question, clauses in parts:
         rows = clause_rows(clauses)
         if _have_unlike_counts(one, other, rows, question.asked):
-            found = _frozen_part(question, clauses, {**one.tables, **other.tables}), frozen_answer(question)
+            found = frozen_part(question, clauses, {**one.tables, **other.tables}), frozen_answer(question)
             if _are_few((one, other), rows):
                 return found
             beyond = found if beyond is None else beyond
@@ -66,7 +56,7 @@ def parting_count(one, other):
 def is_parting_count(one, other, value):
     """Whether the value is a store that fits both with a tuple that has unlike counts there."""
     check_comparable(one, other)
-    if not isinstance(value, tuple) or len(value) != 2 or not isinstance(value[0], Store):
+    if not is_pair(value) or not isinstance(value[0], Store):
         return False
     store, answer = value
     if not isinstance(answer, tuple) or not fits(store, one) or not fits(store, other):

@@ -4,7 +4,7 @@ from joinhouse.base.questions import Question, are_comparable, check_comparable
 from joinhouse.base.readings import MAX_LISTED, has_answer
 from joinhouse.base.search import count_found, each_found, is_found
 from joinhouse.base.stores import MAX_TABLES, Store, fits, frozen, frozen_answer
-from joinhouse.base.words import are_names, is_dict_from, is_integer
+from joinhouse.base.words import are_names, is_dict_from, is_index, is_pair
 from joinhouse.errors import InvalidOperation, InvalidQuestion, TooMany
 
 MAX_UNITED = 8
@@ -16,6 +16,16 @@ def clause_rows(clauses):
     for table, columns in clauses:
         rows[table].append(columns)
     return rows
+
+
+def frozen_part(question, clauses, tables):
+    """The store with some tables, and just those rows of the frozen store of a question that come from some clauses."""
+    numbers = {column: number for number, column in enumerate(question.columns)}
+    rows = clause_rows(clauses)
+    return Store(tables, {
+        table: tuple([tuple([numbers[column] for column in columns]) for columns in rows[table]])
+        for table in rows
+    })
 
 
 def _asked_to(one, other):
@@ -107,7 +117,7 @@ def _is_lost_in(ones, other, store, answer):
 def is_lost_answer(one, other, value):
     """Whether the value is a store that fits both, with an answer of the other question that is none of the first."""
     check_comparable(one, other)
-    if not isinstance(value, tuple) or len(value) != 2 or not isinstance(value[0], Store):
+    if not is_pair(value) or not isinstance(value[0], Store):
         return False
     store, answer = value
     return fits(store, one) and fits(store, other) and _is_lost_in((one,), other, store, answer)
@@ -141,11 +151,6 @@ def _all_tables(questions):
     return widths
 
 
-def _is_index(many, value):
-    """Whether the value is an index of one of so many things."""
-    return is_integer(value) and 0 <= value < many
-
-
 def _first_map(ones, other):
     """The pair of the index of the first of some questions from which a map leads to another one, and of a map."""
     for at, one in enumerate(ones):
@@ -169,7 +174,7 @@ def union_maps(ones, others):
 
 def _is_map_from(ones, other, value):
     """Whether the value is a pair of the index of one of some questions and of a map from it to another one."""
-    if not isinstance(value, tuple) or len(value) != 2 or not _is_index(len(ones), value[0]):
+    if not is_pair(value) or not is_index(len(ones), value[0]):
         return False
     return _is_led(ones[value[0]], other, value[1])
 
@@ -194,7 +199,7 @@ def lost_by_union(ones, others):
 def is_lost_by_union(ones, others, value):
     """Whether the value is a triple of an index, a store that fits all questions, and a lost answer."""
     _check_unions(ones, others)
-    if not isinstance(value, tuple) or len(value) != 3 or not _is_index(len(others), value[0]):
+    if not isinstance(value, tuple) or len(value) != 3 or not is_index(len(others), value[0]):
         return False
     at, store, answer = value
     if not isinstance(store, Store) or not all([fits(store, question) for question in (*ones, *others)]):

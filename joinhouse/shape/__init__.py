@@ -1,0 +1,1 @@
+"""The shape of a question: join trees, knots, and the programs that come with them."""
