@@ -8,6 +8,7 @@ from joinhouse import errors
 from joinhouse.base.questions import Question
 from joinhouse.base.stores import Store
 from joinhouse.count.whence import Whence
+from joinhouse.order.layers import Ranked, layered_order
 from tests.brute import asking
 from tests.samples import LOOP, PATH, RING, STORE, TWICE, VALUES
 from tests.test_interface import EXAMPLES, FUNCTIONS, METHODS
@@ -44,6 +45,8 @@ def shown(value):
     """A text that tells all that a call could have changed of a value."""
     if isinstance(value, (Question, Store)):
         return repr(value.lines)
+    if isinstance(value, Ranked):
+        return repr((value.question.lines, value.store.lines, value.order, value.total))
     return repr(value.parts) if isinstance(value, Whence) else repr(value)
 
 
@@ -70,12 +73,21 @@ class EveryCallTest(unittest.TestCase):
                 with self.subTest(name=name):
                     self.check(name, call, values)
 
+    def test_keywords(self):
+        for value in (*VALUES, *GOOD):
+            for question in (PATH, RING, value):
+                self.check("layered_order", lambda one, two: layered_order(one, begin=two), [question, value])
+
     def test_values_at_the_end(self):
         for module, name, many in FUNCTIONS:
             if many:
                 call = getattr(module, name)
                 for value in VALUES:
-                    for first in ((PATH, PATH, PATH, PATH), (PATH, STORE, STORE, STORE), (STORE, STORE, (), ())):
+                    for first in (
+                        (PATH, PATH, PATH, PATH), (PATH, STORE, STORE, STORE), (STORE, STORE, (), ()), (PATH, 0, (), ()),
+                        (PATH, {"r": (1, 1), "s": (1, 2)}, (), ()), (PATH, ("b", "a", "c"), (), ()), (PATH, (), (), ()),
+                        (RING, 1, (), ()),
+                    ):
                         with self.subTest(name=name):
                             self.check(name, call, [*first[:many - 1], value])
 

@@ -26,6 +26,7 @@ from joinhouse.count.alike import (
     same_counts,
 )
 from joinhouse.count.whence import Whence, is_parting_whence, lost_with, parting_whence, whence_of, whences
+from joinhouse.errors import NotLayered
 from joinhouse.fold.cores import core_of, count_turns, each_core, folding_onto, is_core, merging_map, spare_clauses
 from joinhouse.fold.maps import (
     count_maps,
@@ -37,6 +38,7 @@ from joinhouse.fold.maps import (
     lost_answer,
     same_answers,
 )
+from joinhouse.order.layers import Ranked, count_layered, is_layer_paper, is_layered, layer_paper, layered_order
 from joinhouse.shape.knots import are_agreeing, is_knot, is_stuck, knot_of, stuck_by, stuck_store
 from joinhouse.shape.reducers import (
     count_copies,
@@ -47,6 +49,18 @@ from joinhouse.shape.reducers import (
     read_rows,
 )
 from joinhouse.shape.trees import is_cutting, join_tree, tree_of
+from joinhouse.size.bounds import (
+    broken_key,
+    count_worst,
+    keeps_keys,
+    least_covering,
+    let_by,
+    reached_by,
+    size_bound,
+    worst_store,
+)
+from joinhouse.width.bags import bag_rows, bag_tree, count_by_bags, is_bag_tree, is_least_order, order_width, width_of
+from joinhouse.width.escapes import escape_table, flight, is_escape_table, is_width_paper, lots_behind, width_paper
 from tests.samples import LOOP, PATH, RING, STORE, TWICE
 
 
@@ -207,6 +221,87 @@ class ExamplesTest(unittest.TestCase):
             [is_full_reducer(PATH, ((1, 0), (0, 1))), missed_store(PATH, ((0, 1), (1, 0))),
              count_copies(PATH, ((1, 0), (0, 1)), 0), is_full_reducer(RING, ((0, 1), (1, 2), (2, 0), (0, 1)))],
             [True, None, 3, False],
+        )
+
+    def test_bounds(self):
+        ONE = {"r": (1, 1), "s": (1, 1), "t": (1, 1)}
+        TWO = {"r": (1, 1), "s": (1, 1)}
+        self.assertEqual(
+            [size_bound(RING.full, ONE, ()), least_covering(RING.full, ONE, ()), size_bound(PATH, TWO, ()),
+             size_bound(PATH, TWO, (("s", 0, 1),))],
+            [(3, 2), (('r', (1, 2)), ('s', (1, 2)), ('t', (1, 2))), (2, 1), (1, 1)],
+        )
+        self.assertEqual(
+            [reached_by(PATH, (("s", 0, 1),)), keeps_keys(STORE, (("s", 0, 1),)), broken_key(STORE, (("s", 0, 1),)),
+             keeps_keys(STORE, (("s", 1, 0),))],
+            [{'r': ('a', 'b', 'c'), 's': ('b', 'c')}, False, (('s', 0, 1), (3, 5), (3, 6)), False],
+        )
+        halves = (("a", (1, 2)), ("b", (1, 2)), ("c", (1, 2)))
+        worst = worst_store(RING.full, ONE, (), halves, 2)
+        self.assertEqual(
+            [len(worst), len(answers(RING.full, worst)), count_worst(RING.full, ONE, (), halves, 2),
+             let_by(RING.full, (), least_covering(RING.full, ONE, ()), worst)],
+            [12, 8, 8, 8],
+        )
+        self.assertEqual(
+            worst_store(PATH, TWO, (("s", 0, 1),), (("a", (1, 2)), ("c", (1, 2))), 2).lines,
+            ('row r 0 0', 'row r 0 1', 'row r 1 0', 'row r 1 1', 'row s 0 0', 'row s 1 1'),
+        )
+
+    def test_layers(self):
+        self.assertEqual(
+            [is_layered(PATH, ("a", "b", "c")), is_layered(PATH, ("a", "c", "b")), count_layered(PATH),
+             layered_order(RING), layered_order(PATH, begin=("a", "c"))],
+            [True, False, 4, None, None],
+        )
+        self.assertEqual(
+            [layer_paper(PATH, ("b", "a", "c"))[0], layer_paper(PATH, ("c", "a", "b")),
+             layer_paper(RING, ("c", "a", "b")), is_layer_paper(PATH, ("b", "a", "c"), ("homes", (0, 0, 1)))],
+            ['homes', ('trio', 'a', 'c', 'b'), ('crown', ('a', 'b', 'c')), True],
+        )
+        ranked = Ranked(PATH, STORE, ("b", "c", "a"))
+        self.assertEqual(
+            [ranked.total, ranked.reading_at(2), ranked.index((1, 3, 6)), ranked.below((3, 6)), ranked.with_head((3,)),
+             ranked.part(3, 5), str(ranked)],
+            [5, (4, 3, 5), 3, 3, (1, 4), ((1, 3, 6), (4, 3, 6)), '5 readings by b c a'],
+        )
+        self.assertEqual(
+            [ranked.count_heads(2), ranked.head_at(2, 1), ranked.head_index((3, 6)), ranked.count_heads(0),
+             (1, 2, 6) in ranked],
+            [3, (3, 5), 2, 1, False],
+        )
+        with self.assertRaises(NotLayered):
+            Ranked(PATH, STORE, ("a", "c", "b"))
+
+    def test_bags(self):
+        self.assertEqual(
+            [width_of(PATH), width_of(RING), width_of(LOOP),
+             is_bag_tree(PATH, ((("b", "c"), ("a", "b")), ((0, 1),))),
+             is_bag_tree(RING, ((("a", "b"), ("b", "c")), ((0, 1),)))],
+            [1, 2, 2, True, False],
+        )
+        self.assertEqual(
+            [order_width(LOOP, ("a", "b", "c", "d")), order_width(PATH, ("b", "a", "c")),
+             is_least_order(PATH, ("a", "b", "c")), is_least_order(PATH, ("b", "a", "c"))],
+            [2, 2, True, False],
+        )
+        self.assertEqual(
+            [bag_rows(PATH, STORE, ("a", "c")), count_by_bags(PATH, STORE, ((("a", "b"), ("b", "c")), ((0, 1),))),
+             count_by_bags(RING, STORE, bag_tree(RING))],
+            [((1, 5), (1, 6), (4, 5), (4, 6)), 5, 1],
+        )
+
+    def test_escapes(self):
+        self.assertEqual(
+            [lots_behind(PATH, ("b",)), lots_behind(RING, ()), escape_table(PATH, 1), escape_table(RING, 1)[("a",)],
+             escape_table(RING, 1)[("a", "b")]],
+            [(('a',), ('c',)), (('a', 'b', 'c'),), None, ('b', 'c'), ('c',)],
+        )
+        table = {(): ("a", "b", "c"), ("a",): ("b", "c"), ("b",): ("c",), ("c",): ("a", "b")}
+        self.assertEqual(
+            [is_escape_table(PATH, 0, table), flight(PATH, 0, table, (("b",), ("c",), ())), width_paper(PATH, 1)[0],
+             width_paper(RING, 1)[0], is_width_paper(RING, 2, ("bags", ((("a", "b", "c"),), ())))],
+            [True, (('c',), ('a', 'b'), ('a', 'b', 'c')), 'bags', 'escape', True],
         )
 
     def test_the_four_objects(self):

@@ -9,7 +9,11 @@ from joinhouse.base.stores import Store
 from joinhouse.count import alike, whence
 from joinhouse.count.whence import Whence
 from joinhouse.fold import cores, maps
+from joinhouse.order import layers
+from joinhouse.order.layers import Ranked
 from joinhouse.shape import knots, reducers, trees
+from joinhouse.size import bounds
+from joinhouse.width import bags, escapes
 from tests.samples import PATH, STORE
 
 FUNCTIONS = (
@@ -93,12 +97,51 @@ FUNCTIONS = (
     (reducers, "count_copies", 3),
     (reducers, "is_full_reducer", 2),
     (reducers, "missed_store", 2),
+    (bounds, "are_sizes", 2),
+    (bounds, "are_keys", 2),
+    (bounds, "decided_by", 2),
+    (bounds, "reached_by", 2),
+    (bounds, "size_bound", 3),
+    (bounds, "least_covering", 3),
+    (bounds, "greatest_filling", 3),
+    (bounds, "is_covering", 3),
+    (bounds, "is_filling", 4),
+    (bounds, "is_least_covering", 4),
+    (bounds, "is_greatest_filling", 4),
+    (bounds, "price_of", 3),
+    (bounds, "worth_of", 1),
+    (bounds, "let_by", 4),
+    (bounds, "keeps_keys", 2),
+    (bounds, "broken_key", 2),
+    (bounds, "worst_store", 5),
+    (bounds, "count_worst", 5),
+    (layers, "is_layered", 2),
+    (layers, "count_layered", 1),
+    (layers, "layer_paper", 2),
+    (layers, "is_layer_paper", 3),
+    (bags, "bag_tree", 1),
+    (bags, "width_of", 1),
+    (bags, "is_bag_tree", 2),
+    (bags, "width_by", 2),
+    (bags, "order_width", 2),
+    (bags, "tree_by_order", 2),
+    (bags, "least_order", 1),
+    (bags, "is_least_order", 2),
+    (bags, "bag_rows", 3),
+    (bags, "count_by_bags", 3),
+    (escapes, "lots_behind", 2),
+    (escapes, "escape_table", 2),
+    (escapes, "is_escape_table", 3),
+    (escapes, "flight", 4),
+    (escapes, "width_paper", 2),
+    (escapes, "is_width_paper", 3),
 )
 
 PROPERTIES = {
     Question: ("clauses", "asked", "lines", "columns", "tables", "is_plain", "lots", "spread", "full"),
     Store: ("tables", "lines", "domain"),
     Whence: ("parts", "unknowns", "ways", "needed"),
+    Ranked: ("question", "store", "order", "total"),
 }
 
 # The methods of each class, with the number of their arguments; None stands for any number.
@@ -117,9 +160,13 @@ METHODS = {
         ("evaluated", 1), ("least", 1), ("greatest", 1), ("without", 1), ("put_in", 3), ("__add__", 1), ("__mul__", 1),
         ("__contains__", 1), ("__len__", 0), ("__iter__", 0), ("__eq__", 1), ("__str__", 0), ("__init__", 1),
     ),
+    Ranked: (
+        ("reading_at", 1), ("index", 1), ("part", 2), ("below", 1), ("with_head", 1), ("count_heads", 1), ("head_at", 2),
+        ("head_index", 1), ("__contains__", 1), ("__eq__", 1), ("__str__", 0), ("__init__", 3),
+    ),
 }
 
-EXAMPLES = ((Question, PATH), (Store, STORE), (Whence, Whence({})))
+EXAMPLES = ((Question, PATH), (Store, STORE), (Whence, Whence({})), (Ranked, Ranked(PATH, STORE, ("b", "c", "a"))))
 
 
 class InterfaceTest(unittest.TestCase):
@@ -142,6 +189,15 @@ class InterfaceTest(unittest.TestCase):
         self.assertEqual(Question.__module__, "joinhouse.base.questions")
         self.assertEqual(Store.__module__, "joinhouse.base.stores")
         self.assertEqual(Whence.__module__, "joinhouse.count.whence")
+        self.assertEqual(Ranked.__module__, "joinhouse.order.layers")
+
+    def test_keywords(self):
+        self.assertEqual((layers.layered_order.__name__, layers.layered_order.__module__),
+                         ("layered_order", "joinhouse.order.layers"))
+        told = inspect.signature(layers.layered_order).parameters
+        self.assertEqual([(name, one.kind) for name, one in told.items()],
+                         [("question", inspect.Parameter.POSITIONAL_OR_KEYWORD), ("begin", inspect.Parameter.KEYWORD_ONLY)])
+        self.assertEqual(told["begin"].default, ())
 
     def test_properties(self):
         for made in PROPERTIES:

@@ -19,3 +19,11 @@ def all_parted(many):
     for _ in range(many):
         found = [(*blocks, block) for blocks in found for block in range(max(blocks, default=-1) + 2)]
     return found
+
+
+def all_numbered(limits):
+    """The list of all tuples with a number below each limit, ascending."""
+    found = [()]
+    for limit in limits:
+        found = [(*numbers, number) for numbers in found for number in range(limit)]
+    return found

@@ -8,10 +8,14 @@ def _is_link(many, value):
     return is_pair(value) and is_index(many, value[0]) and is_index(many, value[1]) and value[0] < value[1]
 
 
-def _reach_all(many, links):
-    """Whether one gets along links from the first of so many things to each other one."""
-    reached = {0: True}
-    todo = [0]
+def links_from(first, links):
+    """The list of the pairs of each thing that one comes to along links, and of the one from which one comes to it.
+
+    It begins near the first thing; what lies behind another one stands behind it.
+    """
+    reached = {first: True}
+    todo = [first]
+    pairs = []
     while todo:
         thing = todo.pop()
         for one, other in links:
@@ -20,7 +24,8 @@ def _reach_all(many, links):
                 if end not in reached:
                     reached[end] = True
                     todo.append(end)
-    return len(reached) == many
+                    pairs.append((end, thing))
+    return pairs
 
 
 def are_tree_links(many, value):
@@ -29,7 +34,7 @@ def are_tree_links(many, value):
         return False
     if not all([_is_link(many, link) for link in value]) or not is_ascending(value):
         return False
-    return _reach_all(many, value)
+    return len(links_from(0, value)) == many - 1
 
 
 def hang_together(things, links):

@@ -35,3 +35,24 @@ def named(question, mask):
 def within(one, other):
     """Whether a set has no columns that another one has not."""
     return one & ~other == 0
+
+
+def grown(near, some, mask):
+    """All columns of a set that one comes to from some columns of it by neighbours, without leaving it."""
+    while True:
+        more = some
+        for column in columns_in(some):
+            more |= near[column] & mask
+        if more == some:
+            return some
+        some = more
+
+
+def parted(near, mask):
+    """The list of the sets of columns of a set that hang together by neighbours, by their least columns."""
+    found = []
+    while mask:
+        some = grown(near, mask & -mask, mask)
+        found.append(some)
+        mask &= ~some
+    return found

@@ -1,0 +1,1 @@
+"""Orders of columns by which readings are told by their number."""

@@ -1,0 +1,1 @@
+"""How many answers a question can have."""

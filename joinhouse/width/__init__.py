@@ -1,0 +1,1 @@
+"""How wide a question is: trees of bags, and escapes."""
