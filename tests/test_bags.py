@@ -246,6 +246,9 @@ class BagTreesTest(RefusingCase):
             self.refused(InvalidOperation, count_by_bags, PATH, STORE, value)
 
     def test_links_left_out(self):
+        loose = shape("a", "b", "c")
+        for links in (((0, 1), (0, 2), (1, 2)), ((0, 1),), (), ((0, 1), (0, 2))):
+            self.assertIs(is_bag_tree(loose, ((("a",), ("b",), ("c",)), links)), len(links) == 2)
         four = ((("a", "b"), ("b", "c"), ("c", "d"), ("d",)), ((0, 1), (1, 2), (2, 3)))
         path = shape("ab", "bc", "cd")
         self.assertIs(is_bag_tree(path, four), True)

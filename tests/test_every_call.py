@@ -19,6 +19,7 @@ OWN = tuple(
 )
 GOOD = (
     PATH, PATH, RING, TWICE, LOOP, asking("r a b", "asked a"), STORE, STORE, STORE.without_table("t"), Whence({}),
+    Ranked(PATH, STORE, ("b", "c", "a")),
     (("r", (1, 2)),), (1, 2), (1,), ("a", "b"), ("a", "c"), ("b",), ("r", (1, 2)), {("r", (1, 2)): 1}, (STORE, (1,)),
     ((0, 1),), ((1, 0), (0, 1)), ((0, 1), (1, 2)), ("crown", ("a", "b", "c")), ("ring", ("a", "b", "c", "d")),
     {"a": "a", "b": "b", "c": "a"}, {"a": "a", "b": "b", "c": "c"}, ((0, {"a": "a", "b": "b", "c": "a"}),), (PATH,),

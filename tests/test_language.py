@@ -28,6 +28,10 @@ NO_NAMES = set("register mro elements open input law version_info with_traceback
                "compile getattr setattr hasattr globals locals super type gc os sys".split())
 NO_WORDS = set("type typing enum Enum IntEnum StrEnum Flag IntFlag Generic Protocol ABC ABCMeta namedtuple NamedTuple "
                "TypedDict abstractmethod".split())
+OPERATORS = set("__add__ __mul__ __contains__ __len__ __eq__ __str__".split())
+CHANGES = set("append clear extend insert pop remove reverse setdefault update".split())
+# Objects that are created keep what they are created from.
+CREATE = {"__init__", "Question", "Store", "Whence"}
 DECORATORS = {"property", "classmethod", "staticmethod"}
 
 
@@ -54,6 +58,15 @@ def is_called(node, names):
 
 def is_set(node):
     return isinstance(node, (ast.Set, ast.SetComp)) or is_called(node, {"set"})
+
+
+def is_decorated(node, name):
+    return any(isinstance(one, ast.Name) and one.id == name for one in node.decorator_list)
+
+
+def is_made(node):
+    """Whether an expression makes a list or dict that operators can change."""
+    return isinstance(node, (ast.List, ast.ListComp, ast.Dict)) or is_called(node, {"list", "dict", "sorted"})
 
 
 class LanguageTest(unittest.TestCase):
@@ -148,6 +161,47 @@ class LanguageTest(unittest.TestCase):
                 self.assertIn(node.func.attr, own | METHODS, (path, node.lineno))
             if isinstance(node, ast.Attribute) and isinstance(node.ctx, ast.Store):
                 self.assertNotIn(node.attr, NO_ATTRIBUTES | properties | METHODS - {"count", "index"}, path)
+
+    def test_names_of_properties_are_their_own(self):
+        methods = [node for _, node in NODES if isinstance(node, ast.FunctionDef) and isinstance(node.above, ast.ClassDef)]
+        properties = {node.name for node in methods if is_decorated(node, "property")}
+        for node in methods:
+            self.assertTrue(node.name not in properties or is_decorated(node, "property"), node.name)
+
+    def test_operators_and_properties_change_nothing(self):
+        functions = {node.name: node for _, node in NODES if isinstance(node, ast.FunctionDef)}
+        todo = [node for node in functions.values() if is_decorated(node, "property") or node.name in OPERATORS]
+        todo += [node for _, node in NODES if isinstance(node, ast.FunctionDef) and node.name in OPERATORS]
+        seen = []
+        while todo:
+            node = todo.pop()
+            if node not in seen:
+                seen.append(node)
+                made = {target.id for one in ast.walk(node) if isinstance(one, ast.Assign) and is_made(one.value)
+                        for target in one.targets if isinstance(target, ast.Name)}
+                for below in ast.walk(node):
+                    self.assert_unchanged(node, below, made)
+                    if isinstance(below, ast.Call):
+                        name = below.func.id if isinstance(below.func, ast.Name) else getattr(below.func, "attr", "")
+                        if name in functions and name not in CREATE:
+                            todo.append(functions[name])
+        self.assertGreater(len(seen), 30)
+
+    def assert_unchanged(self, function, node, made):
+        """Checks that a node changes nothing but what the function made."""
+        if isinstance(node, (ast.Attribute, ast.Subscript)) and not isinstance(node.ctx, ast.Load):
+            self.assertTrue(isinstance(node, ast.Subscript) and isinstance(node.value, ast.Name)
+                            and node.value.id in made, (function.name, node.lineno))
+        if isinstance(node, ast.Call) and isinstance(node.func, ast.Attribute) and node.func.attr in CHANGES:
+            self.assertTrue(isinstance(node.func.value, ast.Name) and node.func.value.id in made,
+                            (function.name, node.lineno))
+        if isinstance(node, ast.AugAssign):
+            self.assertIsInstance(node.value, ast.Constant, (function.name, node.lineno))
+
+    def test_powers_are_literal(self):
+        for path, node in NODES:
+            if isinstance(node, ast.BinOp) and isinstance(node.op, ast.Pow):
+                self.assertIsInstance(node.right, ast.Constant, (path, node.lineno))
 
     def test_names_of_generators_are_their_own(self):
         functions = [node for _, node in NODES if isinstance(node, ast.FunctionDef)]

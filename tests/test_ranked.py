@@ -222,6 +222,12 @@ class RankedTest(RefusingCase):
                 self.refused(InvalidNumber, RANKED.head_at, value, None, keeps=("value", value))
             if not good or value != 0:
                 self.refused(InvalidNumber, RANKED.head_at, 0, value, keeps=("value", value))
+        for value in (6, -1, True):
+            self.refused(InvalidNumber, RANKED.part, value, 0, keeps=("value", value))
+            self.refused(InvalidNumber, RANKED.part, 0, value, keeps=("value", value))
+        for value in (4, -1, True):
+            self.refused(InvalidNumber, RANKED.count_heads, value, keeps=("value", value))
+            self.refused(InvalidNumber, RANKED.head_at, value, 0, keeps=("value", value))
         self.assertEqual(RANKED.head_at(0, 0), ())
         self.assertEqual(RANKED.part(5, 5), ())
 

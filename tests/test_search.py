@@ -6,8 +6,8 @@ import unittest
 from unittest.mock import patch
 
 from joinhouse.base import plans, search
-from joinhouse.base.choices import all_chosen, all_parted
-from joinhouse.base.search import Search, count_found, each_found, found_until, is_found
+from joinhouse.base.choices import all_chosen, all_numbered, all_parted
+from joinhouse.base.search import Search, count_found, each_found, each_found_part, found_until, is_found
 from tests.brute import all_readings, some_question, some_store
 
 # How few tuples need no plan, how much is kept, and from how many values on fewer ones are looked for.
@@ -33,6 +33,9 @@ class SearchTest(unittest.TestCase):
         self.assertEqual(list(each_found(question, rows, given)), left)
         self.assertEqual(count_found(question, rows, given), len(left))
         self.assertIs(is_found(question, rows, given), bool(left))
+        led = [dict(zip(question.columns, reading)) for reading in right]
+        parts = sorted({tuple(reading[column] for column in columns) for reading in led})
+        self.assertEqual(list(each_found_part(question, rows, columns)), parts)
 
     def test_in_all_ways(self):
         for few, kept, many, times in WAYS:
@@ -86,6 +89,10 @@ class ChoicesTest(unittest.TestCase):
         self.assertEqual([len(all_parted(many)) for many in range(7)], [1, 1, 2, 5, 15, 52, 203])
         self.assertEqual(all_parted(3), [(0, 0, 0), (0, 0, 1), (0, 1, 0), (0, 1, 1), (0, 1, 2)])
         self.assertEqual(len(set(all_parted(6))), 203)
+
+    def test_numbered(self):
+        for limits in ((), (3,), (2, 3, 1), (2, 0, 4), (0,), (1, 1), (4, 5)):
+            self.assertEqual(all_numbered(limits), list(itertools.product(*[range(limit) for limit in limits])))
 
 
 if __name__ == "__main__":

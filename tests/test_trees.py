@@ -76,6 +76,8 @@ class TreesTest(RefusingCase):
         self.check(loose)
         for links in (((0, 1), (0, 2)), ((0, 1), (1, 2)), ((0, 2), (1, 2))):
             self.assertIs(is_join_tree(loose, links), True)
+        for links in (((0, 1), (0, 2), (1, 2)), ((0, 1),), ((0, 1), (0, 1)), ()):
+            self.assertIs(is_join_tree(loose, links), False)
         self.check(STAR)
         self.assertIs(is_join_tree(STAR, ((0, 1), (0, 2), (2, 3))), True)
         self.assertIs(is_join_tree(STAR, ((0, 1), (0, 3), (2, 3))), False)

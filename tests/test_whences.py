@@ -235,7 +235,10 @@ class PartingTest(RefusingCase):
                       (frozen(ONCE), None), (frozen(ONCE).lines, (0,)), ((0,), frozen(ONCE)), (Store({"s": 2}, {}), (0,)),
                       (Store({"r": 3}, {}), (0,)), (Store({"r": 2}, {}), (0,))):
             self.assertIs(is_parting_whence(ONCE, TWICE, value), False, value)
-        self.assertIs(is_parting_whence(ONCE, asking("r a b", "t b", "asked a"), frozen_once), False)
+        more = asking("r a b", "t b", "asked a")
+        self.assertIs(is_parting_whence(ONCE, more, frozen_once), False)
+        self.assertIs(is_parting_whence(more, ONCE, frozen_once), False)
+        self.assertIs(is_parting_whence(more, ONCE, (frozen(ONCE).with_table("t", 1), (0,))), True)
 
     def test_too_many_readings_to_judge(self):
         two, three = asking("t a", "t b"), asking("t a", "t b", "t c")

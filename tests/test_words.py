@@ -42,6 +42,18 @@ class NumbersTest(RefusingCase):
             self.assertIs(is_count(value), is_plain_integer(value) and value >= 0, value)
 
 
+    def test_powers(self):
+        for number in (0, 1, 2, 7, -3, SIXTY):
+            for times in range(70):
+                self.assertEqual(words.power(number, times), number ** times)
+
+    def test_indices_and_pairs(self):
+        for value in VALUES:
+            for many in (0, 1, 2, 5):
+                self.assertIs(words.is_index(many, value), is_plain_integer(value) and 0 <= value < many)
+            self.assertIs(words.is_pair(value), value.__class__ is tuple and len(value) == 2)
+
+
 class NamesTest(RefusingCase):
 
     def test_names(self):

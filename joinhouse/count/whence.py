@@ -4,7 +4,7 @@ from joinhouse.base.choices import all_chosen
 from joinhouse.base.questions import MAX_CLAUSES, are_alike, check_comparable, check_questions
 from joinhouse.base.readings import are_values, listed_readings
 from joinhouse.base.search import count_found
-from joinhouse.base.stores import Store, check_fit, check_stores, fits, frozen_answer, is_entry
+from joinhouse.base.stores import Store, check_stores, fits, frozen_answer, is_entry
 from joinhouse.base.words import is_ascending, is_count, is_integer, is_name, is_pair, is_row, power
 from joinhouse.errors import InvalidOperation, InvalidRow, InvalidTable
 from joinhouse.fold.maps import clause_rows, frozen_part
@@ -262,7 +262,6 @@ def lost_with(question, store, rows):
     check_stores(store)
     if not _are_entries(rows) or not all([pair in store for pair in rows]):
         raise InvalidOperation("no ascending tuple of pairs in the store")
-    check_fit(question, store)
     found = _by_answers(question, listed_readings(question, store))
     struck = {pair: True for pair in rows}
     products = Products(question)
@@ -277,24 +276,23 @@ def _part_with(question, clauses, one, other):
     return frozen_part(question, clauses, {**one.tables, **other.tables}), frozen_answer(question)
 
 
-def _parts_in(one, other):
-    """Which rows of the frozen stores of two questions can part them: all first, then few ones, then more."""
-    some = [(question, clauses) for many in range(1, MAX_CLAUSES) for question in (one, other)
-            for clauses in all_chosen(question.clauses, many)]
-    return [(one, one.clauses), (other, other.clauses), *some]
-
-
 def _are_read_once(one, other):
     """Whether a reading of one question, for the frozen answer of another one, reads all its frozen rows once each."""
     if len(one) != len(other):
         return False
     led = dict(zip(one.asked, other.asked))
     onto = 0
-    # Those that leave out some clauses are taken away.
+    # The readings that leave out some rows are taken away from all of them.
     for many in range(1, len(other) + 1):
         readings = sum([count_found(one, clause_rows(some), led) for some in all_chosen(other.clauses, many)])
         onto += readings if (len(other) - many) & 1 == 0 else -readings
     return onto > 0
+
+
+def _can_be_judged(one, other, clauses):
+    """Whether both questions have few readings enough in a store with some frozen rows."""
+    rows = clause_rows(clauses)
+    return max([count_found(question, rows, {}) for question in (one, other)]) <= MAX_LISTED
 
 
 def parting_whence(one, other):
@@ -302,15 +300,19 @@ def parting_whence(one, other):
     check_comparable(one, other)
     if are_alike(one, other):
         return None
-    for question, clauses in _parts_in(one, other):
-        rows = clause_rows(clauses)
-        if max([count_found(some, rows, {}) for some in (one, other)]) <= MAX_LISTED:
+    # If each of both read all frozen rows of the other one once each, they would be alike.
+    question = other if _are_read_once(other, one) else one
+    whole = _part_with(question, question.clauses, one, other)
+    if _can_be_judged(one, other, question.clauses):
+        return whole
+    parts = [(some, clauses) for many in range(1, MAX_CLAUSES) for some in (one, other)
+             for clauses in all_chosen(some.clauses, many)]
+    for question, clauses in parts:
+        if _can_be_judged(one, other, clauses):
             store, answer = _part_with(question, clauses, one, other)
             if whence_of(one, store, answer) != whence_of(other, store, answer):
                 return store, answer
-    # No judge lists so many readings, but the frozen store that no reading of the other question reads once parts them.
-    question = other if _are_read_once(other, one) else one
-    return _part_with(question, question.clauses, one, other)
+    return whole
 
 
 def is_parting_whence(one, other, value):

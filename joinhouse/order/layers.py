@@ -100,9 +100,9 @@ def _reason(question, order):
     near = near_masks(question)
     place = _homes_of(question, order).index(None)
     some = _needs(question, order)[place]
-    last = 1 << question.columns.index(order[place])
-    for column in columns_in(some & ~last):
-        apart = some & ~last & ~near[column] & ~(1 << column)
+    for column in columns_in(some):
+        # The last column of the set is never apart, as it is a neighbour of all others.
+        apart = some & ~near[column] & ~(1 << column)
         if apart:
             return "trio", *named(question, mask_of([column, columns_in(apart)[0]])), order[place]
     # All these are neighbours of one another: what no clause has, but for each of its columns some has the others.
@@ -131,14 +131,14 @@ def _are_homes(question, order, value):
 
 def _is_trio(question, order, value):
     """Whether the value is a tuple of two columns that are no neighbours and of a neighbour of both behind them."""
-    if not are_names(value) or len(value) != 3 or not all([column in order for column in value]):
+    if len(value) != 3 or not all([column in order for column in value]):
         return False
-    near = near_masks(question)
-    one, other, last = [question.columns.index(column) for column in value]
-    if one >= other or near[one] >> other & 1:
+    one, other = [question.columns.index(column) for column in value[:2]]
+    if one >= other or near_masks(question)[one] >> other & 1:
         return False
-    together = 1 << one | 1 << other
-    return within(together, _needs(question, order)[order.index(value[2])]) and not together >> last & 1
+    # All others of this set are neighbours of the last column, so that it is none of both.
+    need = _needs(question, order)[order.index(value[2])]
+    return within(1 << one | 1 << other, need)
 
 
 def is_layer_paper(question, order, value):

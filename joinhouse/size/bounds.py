@@ -7,7 +7,6 @@ from joinhouse.base.words import is_ascending, is_dict_from, is_index, is_intege
 from joinhouse.errors import InvalidKeys, InvalidNumber, InvalidSizes, InvalidStore, InvalidWeights, TooMany
 from joinhouse.size.quotients import (
     ONE,
-    ZERO,
     added,
     common_denominator,
     is_at_most,

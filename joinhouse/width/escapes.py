@@ -127,11 +127,6 @@ def escape_table(question, width):
     return table
 
 
-def _is_lot(lots, value):
-    """Whether the value is one of some lots."""
-    return are_names(value) and value in lots
-
-
 def _are_nested(table, names, question, width):
     """Whether no column that is put to some columns leads out of their lot."""
     lot = _mask_of_names(question, table[names])
@@ -146,7 +141,7 @@ def _is_escape(question, width, value):
     every = _sets_of(question, width)
     if not isinstance(value, dict) or len(value) != len(every) or not all([names in value for names in every]):
         return False
-    if not all([_is_lot(lots_behind(question, names), value[names]) for names in every]):
+    if not all([value[names] in lots_behind(question, names) for names in every]):
         return False
     return all([_are_nested(value, names, question, width) for names in every])
 
