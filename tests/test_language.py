@@ -64,6 +64,26 @@ def is_decorated(node, name):
     return any(isinstance(one, ast.Name) and one.id == name for one in node.decorator_list)
 
 
+def root_of(node):
+    """The name that an item or attribute is one of, however deep; the name itself."""
+    while isinstance(node, (ast.Subscript, ast.Attribute)):
+        node = node.value
+    return node.id if isinstance(node, ast.Name) else None
+
+
+def got_by_itself(node):
+    """Whether `+=`, `|=`, `extend` or `update` gets what it changes, or an item or attribute of the same thing."""
+    if isinstance(node, ast.AugAssign) and isinstance(node.op, (ast.Add, ast.BitOr)):
+        changed, given = node.target, [node.value]
+    elif isinstance(node, ast.Call) and isinstance(node.func, ast.Attribute) and node.func.attr in ("extend", "update"):
+        changed, given = node.func.value, node.args
+    else:
+        return False
+    root = root_of(changed)
+    named = {below.id for one in given for below in ast.walk(one) if isinstance(below, ast.Name)}
+    return root is not None and root in named
+
+
 def is_made(node):
     """Whether an expression makes a list or dict that operators can change."""
     return isinstance(node, (ast.List, ast.ListComp, ast.Dict)) or is_called(node, {"list", "dict", "sorted"})
@@ -197,6 +217,19 @@ class LanguageTest(unittest.TestCase):
                             (function.name, node.lineno))
         if isinstance(node, ast.AugAssign):
             self.assertIsInstance(node.value, ast.Constant, (function.name, node.lineno))
+
+    def test_nothing_gets_what_it_changes(self):
+        for path, node in NODES:
+            self.assertFalse(got_by_itself(node), (path, getattr(node, "lineno", 0)))
+
+    def test_what_gets_what_it_changes_is_found(self):
+        bent = ("copies[other] += copies[one]", "copies[other] |= copies[one]", "box.many += box.few", "xs += xs",
+                "rows[0][1] += sum(rows[1])", "xs.extend(xs)", "self.a.update(self.b)", "xs[0].extend([x for x in xs])")
+        good = ("copies[other] = copies[other] + copies[one]", "copies[other] += more", "xs += [1]", "xs.extend(ys)",
+                "self.many += 1", "copies[other] -= copies[one]", "seen.update({one: True})", "xs.append(xs[0])")
+        for texts, told in ((bent, True), (good, False)):
+            for text in texts:
+                self.assertEqual(any(got_by_itself(node) for node in ast.walk(ast.parse(text))), told, text)
 
     def test_powers_are_literal(self):
         for path, node in NODES:

@@ -73,7 +73,7 @@ def _number_of_copies(question, program, index):
     copies = [0] * len(question)
     copies[index] = 1
     for one, other in reversed(program):
-        copies[other] += copies[one]
+        copies[other] = copies[other] + copies[one]
     return sum(copies)
 
 
