@@ -31,7 +31,7 @@ NO_WORDS = set("type typing enum Enum IntEnum StrEnum Flag IntFlag Generic Proto
 OPERATORS = set("__add__ __mul__ __contains__ __len__ __eq__ __str__".split())
 CHANGES = set("append clear extend insert pop remove reverse setdefault update".split())
 # Objects that are created keep what they are created from.
-CREATE = {"__init__", "Question", "Store", "Whence"}
+CREATE = {"__init__", "Question", "Store", "Whence", "Scheme"}
 DECORATORS = {"property", "classmethod", "staticmethod"}
 
 
@@ -286,9 +286,52 @@ class LanguageTest(unittest.TestCase):
                 if not isinstance(node.above, ast.Expr):
                     self.assertFalse(NO_WORDS & set(node.value.split()), path)
 
+    def test_only_own_errors_are_caught(self):
+        own = {node.name for node in dict(TREES)[FOLDER / "errors.py"].body if isinstance(node, ast.ClassDef)}
+        for path, node in NODES:
+            if isinstance(node, ast.Try):
+                self.assertEqual((node.finalbody, node.orelse), ([], []), path)
+            if isinstance(node, ast.ExceptHandler):
+                self.assertIsInstance(node.type, ast.Name, path)
+                self.assertIn(node.type.id, own, path)
+            if isinstance(node, ast.FunctionDef):
+                handlers = [below.name for below in ast.walk(node) if isinstance(below, ast.ExceptHandler) and below.name]
+                bound = {below.id for below in ast.walk(node)
+                         if isinstance(below, ast.Name) and isinstance(below.ctx, ast.Store)}
+                bound |= {below.arg for below in ast.walk(node) if isinstance(below, ast.arg)}
+                self.assertEqual(len(handlers), len(set(handlers)), (path, node.name))
+                self.assertFalse(set(handlers) & bound, (path, node.name))
+
+    def test_blocks_that_are_entered(self):
+        entered = [node for _, node in NODES if isinstance(node, ast.With)]
+        self.assertEqual(len(entered), 1)
+        for node in entered:
+            for item in node.items:
+                self.assertIsInstance(item.context_expr, (ast.Call, ast.Name, ast.Attribute))
+                self.assertIsInstance(item.optional_vars, ast.Name)
+        for path, node in NODES:
+            if isinstance(node, ast.FunctionDef) and node.name == "__exit__":
+                self.assertEqual([one.arg for one in node.args.args], ["self", "kind", "value", "trace"])
+                for row in node.body:
+                    self.assertIsInstance(row, ast.Assign, path)
+                    self.assertIsInstance(row.targets[0], ast.Attribute, path)
+                    self.assertIsInstance(row.value, (ast.Attribute, ast.Name), path)
+
+    def test_stars_in_calls(self):
+        plain = (ast.Name, ast.Constant, ast.List, ast.Tuple, ast.Dict)
+        for path, node in NODES:
+            if isinstance(node, ast.Call):
+                for one in node.args:
+                    if isinstance(one, ast.Starred):
+                        self.assertIsInstance(one.value, plain, (path, node.lineno))
+
+    def test_methods_have_no_names_of_attributes(self):
+        methods = {node.name for _, node in NODES if isinstance(node, ast.FunctionDef) and isinstance(node.above, ast.ClassDef)}
+        stored = {node.attr for _, node in NODES if isinstance(node, ast.Attribute) and isinstance(node.ctx, ast.Store)}
+        self.assertEqual(methods & stored, set())
+
     def test_raised_errors(self):
         for path, node in NODES:
-            self.assertNotIsInstance(node, ast.Try, path)
             if isinstance(node, ast.Raise):
                 self.assertTrue(isinstance(node.exc, ast.Call) and isinstance(node.exc.func, ast.Name), path)
 

@@ -1,0 +1,1 @@
+"""Counts that are kept while rows change."""

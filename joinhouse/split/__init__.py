@@ -1,0 +1,1 @@
+"""Wide tables with rules between columns, and how they can be split."""

@@ -1,0 +1,1 @@
+"""How few rows must be struck so that no reading is left."""

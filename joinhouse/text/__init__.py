@@ -1,0 +1,1 @@
+"""Texts of questions, stores and papers, and a shell."""

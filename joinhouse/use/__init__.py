@@ -1,0 +1,1 @@
+"""A bench on which a question and a store are worked on."""

@@ -1,0 +1,1 @@
+"""The number of readings, worked in several ways."""
