@@ -4,6 +4,7 @@ import itertools
 
 from joinhouse.base.questions import Question
 from joinhouse.base.stores import Store
+from joinhouse.split.rules import Scheme
 
 WIDTHS = {"r": 2, "s": 2, "t": 1, "w": 3}
 
@@ -164,3 +165,22 @@ def is_connected(things, links):
         if more == reached:
             return reached == things
         reached = more
+
+
+def all_sides(columns):
+    """All ascending tuples of some columns."""
+    return [side for many in range(len(columns) + 1) for side in itertools.combinations(columns, many)]
+
+
+def some_rule(chance, columns):
+    """A rule for columns by chance."""
+    left = tuple(sorted(chance.sample(columns, min(len(columns), chance.choice((0, 1, 1, 1, 2, 2, 3))))))
+    right = tuple(sorted(chance.sample(columns, min(len(columns), chance.choice((1, 1, 2))))))
+    return left, right
+
+
+def some_scheme(chance, *, letters="abcde", most=4):
+    """A scheme by chance."""
+    columns = tuple(letters)
+    rules = {some_rule(chance, columns) for _ in range(chance.randint(0, most))}
+    return Scheme(columns, tuple(sorted(rules)))
