@@ -6,6 +6,8 @@ import unittest
 from joinhouse.base import questions, readings, stores, words
 from joinhouse.base.questions import Question
 from joinhouse.base.stores import Store
+from joinhouse.change import forests
+from joinhouse.change.forests import Tally, forest_of
 from joinhouse.count import alike, whence
 from joinhouse.count.whence import Whence
 from joinhouse.fold import cores, maps
@@ -13,7 +15,16 @@ from joinhouse.order import layers
 from joinhouse.order.layers import Ranked
 from joinhouse.shape import knots, reducers, trees
 from joinhouse.size import bounds
+from joinhouse.split import chase, rules
+from joinhouse.split.rules import Scheme
+from joinhouse.strike import lines
+from joinhouse.text import shell, texts
+from joinhouse.text.shell import Shell
+from joinhouse.text.texts import write_question, write_store
+from joinhouse.use import bench
+from joinhouse.use.bench import Bench
 from joinhouse.width import bags, escapes
+from joinhouse.work import ways
 from tests.samples import PATH, STORE
 
 FUNCTIONS = (
@@ -135,6 +146,77 @@ FUNCTIONS = (
     (escapes, "flight", 4),
     (escapes, "width_paper", 2),
     (escapes, "is_width_paper", 3),
+    (lines, "line_of", 1),
+    (lines, "trio_of", 1),
+    (lines, "is_line", 2),
+    (lines, "is_trio", 2),
+    (lines, "forced_numbers", 2),
+    (rules, "keeps", 2),
+    (rules, "closure", 2),
+    (rules, "decides", 3),
+    (rules, "least_keys", 1),
+    (rules, "follows", 2),
+    (rules, "derivation", 2),
+    (rules, "is_derivation", 3),
+    (rules, "parting_pair", 2),
+    (rules, "is_parting_pair", 3),
+    (chase, "joined_rows", 3),
+    (chase, "split_question", 2),
+    (chase, "split_store", 3),
+    (chase, "chased", 2),
+    (chase, "is_lossless", 2),
+    (chase, "chase_run", 2),
+    (chase, "is_chase_run", 3),
+    (chase, "lost_row", 2),
+    (chase, "is_lost_row", 3),
+    (chase, "is_normal_part", 2),
+    (chase, "normal_split", 1),
+    (chase, "is_normal_split", 2),
+    (chase, "are_told_apart", 2),
+    (forests, "crossing_of", 1),
+    (forests, "is_crossing", 2),
+    (forests, "forest_of", 1),
+    (forests, "is_forest", 2),
+    (forests, "open_forest", 1),
+    (forests, "is_open", 2),
+    (forests, "bar_of", 1),
+    (forests, "is_bar", 2),
+    (forests, "way_to", 2),
+    (ways, "applies", 3),
+    (ways, "count_by", 3),
+    (ways, "counts_by_all", 2),
+    (ways, "count_all", 2),
+    (ways, "tree_counts", 3),
+    (texts, "write_question", 1),
+    (texts, "read_question", 1),
+    (texts, "write_store", 1),
+    (texts, "read_store", 1),
+    (texts, "write_map", 1),
+    (texts, "read_map", 1),
+    (texts, "write_links", 1),
+    (texts, "read_links", 1),
+    (texts, "write_knot", 1),
+    (texts, "read_knot", 1),
+)
+
+# Functions with keywords, with the number of the arguments ahead of them, and the defaults of the keywords.
+KEYED = (
+    (layers, "layered_order", 1, {"begin": ()}),
+    (lines, "cheapest_strike", 2, {"prices": None, "kept": ()}),
+    (lines, "greatest_load", 2, {"prices": None, "kept": ()}),
+    (lines, "is_strike", 3, {"prices": None, "kept": ()}),
+    (lines, "is_load", 3, {"prices": None, "kept": ()}),
+    (lines, "strike_paper", 2, {"prices": None, "kept": ()}),
+    (lines, "is_strike_paper", 3, {"prices": None, "kept": ()}),
+)
+
+CONSTANTS = (
+    (words, "MAX_LETTERS", 8), (words, "MAX_FIGURES", 60), (questions, "MAX_CLAUSES", 8), (questions, "MAX_COLUMNS", 8),
+    (stores, "MAX_TABLES", 16), (stores, "MAX_ROWS", 3000), (readings, "MAX_LISTED", 20000), (alike, "MAX_VALUES", 6),
+    (alike, "MAX_FEW", 8), (whence, "MAX_LISTED", 20000), (bounds, "MAX_SIZE", 9), (bounds, "MAX_PART", 2),
+    (bounds, "MAX_KEYS", 20), (bounds, "MAX_GROWTH", 1000), (layers, "MAX_PART", 2000), (bags, "MAX_BAGS", 40),
+    (bags, "MAX_BAG_ROWS", 20000), (lines, "MAX_FORCE", 16), (bench, "MAX_PLEDGES", 10),
+    (ways, "WAYS", ("readings", "tree", "layers", "bags", "whence", "forest", "maps")),
 )
 
 PROPERTIES = {
@@ -142,6 +224,9 @@ PROPERTIES = {
     Store: ("tables", "lines", "domain"),
     Whence: ("parts", "unknowns", "ways", "needed"),
     Ranked: ("question", "store", "order", "total"),
+    Scheme: ("columns", "rules", "lines"),
+    Tally: ("question", "forest", "store", "total", "changes"),
+    Bench: ("question", "store", "total", "pledges"),
 }
 
 # The methods of each class, with the number of their arguments; None stands for any number.
@@ -164,9 +249,28 @@ METHODS = {
         ("reading_at", 1), ("index", 1), ("part", 2), ("below", 1), ("with_head", 1), ("count_heads", 1), ("head_at", 2),
         ("head_index", 1), ("__contains__", 1), ("__eq__", 1), ("__str__", 0), ("__init__", 3),
     ),
+    Scheme: (
+        ("with_rule", 1), ("without_rule", 1), ("renamed", 1), ("__contains__", 1), ("__len__", 0), ("__iter__", 0),
+        ("__eq__", 1), ("__str__", 0), ("__init__", 2),
+    ),
+    Tally: (
+        ("put", 2), ("take", 2), ("number_at", 2), ("sum_at", 2), ("counted", 1), ("twin", 0), ("__call__", 3),
+        ("__contains__", 1), ("__len__", 0), ("__eq__", 1), ("__str__", 0), ("__init__", 3),
+    ),
+    Bench: (
+        ("adjoin", 1), ("drop", 1), ("ask", None), ("put", 2), ("take", 2), ("shrink", 0), ("reduce", 0), ("demand", 1),
+        ("waive", 1), ("trial", 0), ("during", 1), ("twin", 0), ("__contains__", 1), ("__len__", 0), ("__iter__", 0),
+        ("__eq__", 1), ("__str__", 0), ("__init__", 2),
+    ),
+    Shell: (("answer", 1), ("bench", 0), ("__call__", 1), ("__len__", 0), ("__init__", 2)),
 }
 
-EXAMPLES = ((Question, PATH), (Store, STORE), (Whence, Whence({})), (Ranked, Ranked(PATH, STORE, ("b", "c", "a"))))
+EXAMPLES = (
+    (Question, PATH), (Store, STORE), (Whence, Whence({})), (Ranked, Ranked(PATH, STORE, ("b", "c", "a"))),
+    (Scheme, Scheme.from_lines("columns a b c d", "rule a -> b", "rule b c -> d")),
+    (Tally, Tally(PATH, forest_of(PATH), STORE)), (Bench, Bench(PATH, STORE)),
+    (Shell, Shell(write_question(PATH), write_store(STORE))),
+)
 
 
 class InterfaceTest(unittest.TestCase):
@@ -186,18 +290,29 @@ class InterfaceTest(unittest.TestCase):
             self.check_arguments(function, many)
 
     def test_classes(self):
-        self.assertEqual(Question.__module__, "joinhouse.base.questions")
-        self.assertEqual(Store.__module__, "joinhouse.base.stores")
-        self.assertEqual(Whence.__module__, "joinhouse.count.whence")
-        self.assertEqual(Ranked.__module__, "joinhouse.order.layers")
+        for made, module in ((Question, questions), (Store, stores), (Whence, whence), (Ranked, layers), (Scheme, rules),
+                             (Tally, forests), (Bench, bench), (Shell, shell)):
+            self.assertEqual((made.__module__, getattr(module, made.__name__)), (module.__name__, made))
+
+    def check_keywords(self, call, many, defaults):
+        """Checks that a call takes so many arguments by position, and these keywords."""
+        told = list(inspect.signature(call).parameters.values())
+        self.assertEqual([one.kind for one in told[:many]], [inspect.Parameter.POSITIONAL_OR_KEYWORD] * many)
+        self.assertEqual([one.kind for one in told[many:]], [inspect.Parameter.KEYWORD_ONLY] * len(defaults))
+        self.assertEqual({one.name: one.default for one in told[many:]}, defaults)
 
     def test_keywords(self):
-        self.assertEqual((layers.layered_order.__name__, layers.layered_order.__module__),
-                         ("layered_order", "joinhouse.order.layers"))
-        told = inspect.signature(layers.layered_order).parameters
-        self.assertEqual([(name, one.kind) for name, one in told.items()],
-                         [("question", inspect.Parameter.POSITIONAL_OR_KEYWORD), ("begin", inspect.Parameter.KEYWORD_ONLY)])
-        self.assertEqual(told["begin"].default, ())
+        for module, name, many, defaults in KEYED:
+            function = getattr(module, name)
+            self.assertEqual((function.__name__, function.__module__), (name, module.__name__))
+            self.check_keywords(function, many, defaults)
+        for name in ("undo", "redo"):
+            self.assertIn(name, Bench.__dict__)
+            self.check_keywords(getattr(Bench(PATH, STORE), name), 0, {"many": 1})
+
+    def test_constants(self):
+        for module, name, value in CONSTANTS:
+            self.assertEqual(getattr(module, name), value)
 
     def test_properties(self):
         for made in PROPERTIES:
@@ -209,7 +324,7 @@ class InterfaceTest(unittest.TestCase):
             for name, many in METHODS[made]:
                 self.assertIn(name, made.__dict__)
                 self.check_arguments(getattr(example, name), many)
-        for made in (Question, Store):
+        for made in (Question, Store, Scheme):
             self.assertIsInstance(made.__dict__["from_lines"], classmethod)
             self.check_arguments(made.from_lines, None)
 
