@@ -231,6 +231,12 @@ class LanguageTest(unittest.TestCase):
             for text in texts:
                 self.assertEqual(any(got_by_itself(node) for node in ast.walk(ast.parse(text))), told, text)
 
+    def test_comparisons_and_texts_assign_nothing(self):
+        for path, node in NODES:
+            if isinstance(node, ast.FunctionDef) and node.name in ("__eq__", "__str__", "__repr__", "__len__"):
+                for below in ast.walk(node):
+                    self.assertNotIsInstance(below, (ast.Assign, ast.AugAssign, ast.Delete), (path, node.lineno))
+
     def test_powers_are_literal(self):
         for path, node in NODES:
             if isinstance(node, ast.BinOp) and isinstance(node.op, ast.Pow):

@@ -145,6 +145,12 @@ class TriosTest(RefusingCase):
                     self.assertIs(is_trio(question, trio), trio in right)
             for trio in sorted(right):
                 self.assertIs(is_trio(question, trio), True)
+            # Each chain of some of them exchanged for each other one.
+            for trio in sorted(right)[:3]:
+                for at in (3, 4, 5):
+                    for chain in chains:
+                        other = (*trio[:at], chain, *trio[at + 1:])
+                        self.assertIs(is_trio(question, other), other in right)
             self.assertTrue(trio_of(question) in right if right else trio_of(question) is None)
         self.assertGreater(seen, 5)
 

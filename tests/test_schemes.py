@@ -316,6 +316,10 @@ class FollowingTest(RefusingCase):
         self.assertIs(is_derivation(more, rule, (0, 1, 2)), True)
         self.assertIs(is_derivation(more, rule, (0, 1)), True)
         self.assertIs(is_derivation(more, rule, (2, 0, 1)), False)
+        # Each rule is needed, and the last one first.
+        back = Scheme(tuple("abcdefgh"), tuple(((other,), (one,)) for one, other in zip("abcdefg", "bcdefgh")))
+        self.assertEqual(derivation(back, (("h",), ("a",))), (6, 5, 4, 3, 2, 1, 0))
+        self.assertEqual(derivation(back, (("d",), ("b", "c"))), (2, 1))
         # A rule whose right side lies within its left one needs nothing.
         self.assertEqual(derivation(LOOSE, (("a", "b"), ("a",))), ())
         self.assertIs(is_derivation(LOOSE, (("a", "b"), ("a",)), ()), True)

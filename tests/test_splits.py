@@ -296,7 +296,8 @@ class ChaseTest(RefusingCase):
         self.assertIs(is_chase_run(SCHEME, WHOLE, ()), True)
         for value in (*VALUES, ((1, 0, 1),), ((1, 0, 1), (0, 0, 1)), ((0, 1, 0),), ((0, 0, 0),), ((0, 0, 2),), ((2, 0, 1),),
                       [(0, 0, 1)], ([0, 0, 1],), ((False, 0, 1),), ((0, 0, True),), ((0, False, 1),), ((0, 0),), ((0, 0, 1, 0),),
-                      ((0, 0, 1), None), (0, 0, 1), ((0, 0, -1),), ((0, None, 1),)):
+                      ((0, 0, 1), None), (0, 0, 1), ((0, 0, -1),), ((0, None, 1),), ((0, 0, 1), (0, 0, 0)), ((0, 0, 1), (0, 1, 1)),
+                      ((0, 0, 1), (0, 1, 0))):
             self.assertIs(is_chase_run(SCHEME, GOOD, value), False, value)
         three = Scheme.from_lines("columns a b c", "rule a -> b", "rule b -> c")
         split = (("a", "b"), ("a", "c"))

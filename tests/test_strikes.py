@@ -434,6 +434,11 @@ class WrongArgumentsTest(RefusingCase):
         one = asking("r a b")
         for call in self.calls:
             self.refused(InvalidOperation, call, one, STORE, kept=("r",))
+        for call in self.calls[3:]:
+            for value in (("s", "r"), ("r", "r"), ("t", "s"), ("r", "s", "t"), ("r", "x")):
+                self.refused(InvalidOperation, call, RING, STORE, kept=value)
+            for value in (("r", "s"), ("s", "t"), ("r", "t")):
+                call(RING, STORE, kept=value)
 
     def test_what_comes_then(self):
         for call in self.calls:

@@ -271,7 +271,7 @@ class TalliesTest(RefusingCase):
     def test_members(self):
         for pair in STORE:
             self.assertIs(pair in self.tally, True)
-        for value in (*VALUES, ("r", (1, 4)), ("r", (True, 2)), ["r", (1, 2)], ("r", (1, 2), 1), ("x", (1, 2)), ("r", (1,))):
+        for value in (*VALUES, (["r"], (1, 2)), ({}, (1, 2)), (("r",), (1, 2)), ("r", (1, 4)), ("r", (True, 2)), ["r", (1, 2)], ("r", (1, 2), 1), ("x", (1, 2)), ("r", (1,))):
             self.assertIs(value in self.tally, value in STORE)
         self.tally.take("r", (1, 2))
         self.assertIs(("r", (1, 2)) in self.tally, False)
@@ -288,6 +288,7 @@ class TalliesTest(RefusingCase):
             (Tally(single, (("a", None), ("b", "a")), STORE), Tally(single, (("a", "b"), ("b", None)), STORE)),
             (self.tally, Tally(question, FOREST, STORE.without_table("t"))),
             (self.tally, Tally(question, FOREST, STORE.without_row("t", (4, 6)))),
+            (Tally(question, FOREST, EMPTY.with_table("t", 1)), Tally(question, FOREST, EMPTY.with_table("t", 2))),
         ):
             self.assertNotEqual(one, other)
         # The same store by other changes is not the same.

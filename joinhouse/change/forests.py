@@ -272,10 +272,9 @@ class Tally:
         return len(self._changes)
 
     def __eq__(self, other):
-        if not isinstance(other, Tally):
+        if not isinstance(other, Tally) or self._question != other._question or self._forest != other._forest:
             return False
-        same = self._question == other._question and self._forest == other._forest and self._widths == other._widths
-        return same and self._rows == other._rows and self._changes == other._changes
+        return self._widths == other._widths and self._rows == other._rows and self._changes == other._changes
 
     def __str__(self):
         return f"tally of {len(self._question.columns)} columns, {self._total} readings"

@@ -30,18 +30,13 @@ def foot_of(ways, columns):
 
 
 class Foot:
-    """A clause and the way to its foot: the places of the columns of the clause on the way, and the other way round.
-
-    `again` are the pairs of a place of the clause where a column stands again, and of its first place.
-    """
+    """A clause and the way to its foot: the places of the columns of the clause on the way, and the other way round."""
 
     def __init__(self, ways, columns):
         self.column = foot_of(ways, columns)
         way = ways[self.column]
         self.places = [way.index(name) for name in columns]
         self.spots = [columns.index(name) for name in way]
-        firsts = [columns.index(name) for name in columns]
-        self.again = [(place, first) for place, first in enumerate(firsts) if place != first]
 
 
 def _set_or_drop(held, values, number):
@@ -120,15 +115,12 @@ class Numbers:
             many *= self.sum_of(below, values)
         return many
 
-    def _refresh(self, column, values, before):
-        """Works the number of a column again, and those above it, as long as they change.
-
-        `before` gets what each of them was at first.
-        """
+    def _refresh(self, column, values, changed):
+        """Works the number of a column again, and those above it, as long as they change; keeps which ones do."""
         old = self.number_of(column, values)
         new = self._worked(column, values)
         while old != new:
-            before.setdefault((column, values), old)
+            changed[(column, values)] = True
             above = values[:-1]
             many = self.sum_of(column, above) + new - old
             _set_or_drop(self._numbers[column], values, new)
@@ -140,13 +132,15 @@ class Numbers:
             new = self._worked(column, values)
 
     def _followed(self, table, row):
-        """Works all numbers again that hang on a row; those that have changed, as they are now."""
-        before = {}
+        """Works all numbers again that hang on a row; those that have changed, as they are now.
+
+        All of them grow where a row is put in, and none where one is taken away, so that none changes back. Where the
+        row does not agree with itself, it hangs on none of them, and all stay.
+        """
+        changed = {}
         for foot in self._feet[table]:
-            if all([row[place] == row[first] for place, first in foot.again]):
-                self._refresh(foot.column, values_in(row, foot.spots), before)
-        now = [(column, values, self.number_of(column, values)) for column, values in before]
-        return tuple(sorted([told for told in now if told[2] != before[told[:2]]]))
+            self._refresh(foot.column, values_in(row, foot.spots), changed)
+        return tuple(sorted([(column, values, self.number_of(column, values)) for column, values in changed]))
 
     def put(self, table, row):
         """Puts a row in; the ascending tuple of the triples of a column, values, and a number that has changed."""

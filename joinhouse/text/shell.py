@@ -249,7 +249,7 @@ _QUERIES = {
 }
 
 
-def _done(bench, line):
+def _outcome(bench, line):
     """The answer to a command, None for every value that is none."""
     word, *rest = words_of(line)
     form = _FORMS.get(word)
@@ -275,7 +275,7 @@ class Shell:
     def answer(self, line):
         """The answer to a command, or the word of its error."""
         try:
-            told = _done(self._bench, line)
+            told = _outcome(self._bench, line)
         except InvalidQuestion:
             return "question"
         except InvalidClause:
