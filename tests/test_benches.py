@@ -546,6 +546,10 @@ class UndoingTest(RefusingCase):
                 self.assertEqual(twin, states[other])
                 self.assertEqual(twin.redo(many=one - other), self.news(totals[other], totals[one]))
                 self.assertEqual(twin, states[one])
+                for at in range(one + 1):
+                    back = twin.twin()
+                    self.assertEqual(back.undo(many=one - at), self.news(totals[one], totals[at]))
+                    self.assertEqual(back, states[at])
                 left = last - one
                 self.refused(NothingToUndo, twin.redo, many=left + 1, keeps=("many", left + 1))
                 self.refused(NothingToUndo, twin.undo, many=one + 1, keeps=("many", one + 1))

@@ -168,6 +168,9 @@ class ShellsTest(RefusingCase):
                     # Any core is right: the bench beside it takes the same one.
                     bench = shell.bench()
                     good += 1
+                    self.assertTrue(is_core_of(twin.question, bench.question))
+                    news = f"from {twin.total} to {bench.total}" if twin.total != bench.total else "nothing"
+                    self.assertEqual(answer, news)
                     continue
                 right, well = told(call)
                 self.assertEqual(answer, right, (command, str(twin), twin.question.lines))
@@ -188,6 +191,12 @@ class ShellsTest(RefusingCase):
                     for name, width in question.tables.items()
                 })
                 self.check_queries(shell_of(question, store), Bench(question, store))
+
+    def test_shrink(self):
+        shell = shell_of(TWICE, STORE)
+        self.assertEqual([shell(word) for word in ("shrink", "shrink", "undo", "undo", "redo")],
+                         ["from 5 to 3", "nothing", "nothing", "from 3 to 5", "from 5 to 3"])
+        self.assertIs(is_core_of(TWICE, shell.bench().question), True)
 
     def test_single_answers(self):
         shell = shell_of(asking("r a b"), Store({"r": 2}, {}))

@@ -38,7 +38,7 @@ def is_crossing(question, value):
 def _grown(question, first):
     """The forest of a question without a crossing; of columns in the same clauses some stand above the others."""
     order = sorted([(-len(question.having(name)), name not in first, name) for name in question.columns])
-    names = [name for _, _, name in order]
+    names = [told[2] for told in order]
     aboves = {}
     for at, name in enumerate(names):
         needed = question.having(name)

@@ -100,9 +100,9 @@ def flow_paths(many, arcs, flows):
     """
     left = list(flows)
     ways = [[] for _ in range(many)]
-    for at, (one, _, _) in enumerate(arcs):
+    for at, arc in enumerate(arcs):
         if left[at]:
-            ways[one].append(at)
+            ways[arc[0]].append(at)
     found = []
     while True:
         path = []

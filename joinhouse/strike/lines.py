@@ -217,7 +217,7 @@ class Network:
                 end = (at + 1, values_in(row, ends))
                 found.append((begin, -1 if at + 1 == len(line) else places.setdefault(end, len(places)), (table, row)))
         self._many = len(places) + 1
-        self._pairs = [pair for _, _, pair in found]
+        self._pairs = [arc[2] for arc in found]
         finite = [market.price(pair) for pair in self._pairs if pair[0] not in market.kept]
         beyond = sum(finite) + 1
         self._arcs = [
